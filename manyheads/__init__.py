@@ -1,0 +1,1 @@
+"""Manyheads: a version store whose sheets follow from sets of patches alone."""

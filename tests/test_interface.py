@@ -1,0 +1,45 @@
+"""What the interface lists stands where it is listed, with as many arguments."""
+
+import ast
+import os
+import unittest
+
+PACKAGE = os.path.join(os.path.dirname(os.path.dirname(os.path.abspath(__file__))), "manyheads")
+
+CLASSES = {
+    "errors.py": {"HeadsError": {}, "BadRow": {"__init__": 2}, "BadPatch": {"__init__": 1}, "NotClosed": {"__init__": 1},
+                  "Unlike": {"__init__": 1}, "Hindered": {"__init__": 1}, "BadPaper": {"__init__": 1},
+                  "BadPack": {"__init__": 1}, "BadHunt": {}, "BadMessage": {}, "OutOfPlace": {}},
+    "patch.py": {"Patch": {"__init__": 3, "told": 0}},
+}
+FUNCTIONS = {
+    "words.py": "is_whole(thing) is_among(thing,least,most) is_word(thing) is_hand(thing) is_name(thing) "
+                "is_put_line(thing) is_end(thing) number_of(word) name_of(word) line_of(word) name_text(name) "
+                "line_text(line) words_of(row)",
+    "patch.py": "lines_put(patch) bindings_of(patch) marks_in(patch) lines_named(deed)",
+    "patchtext.py": "patch_rows(patch) patches_text(patches)",
+}
+
+
+def parts_of(name, kind):
+    with open(os.path.join(PACKAGE, name), encoding="utf-8") as file:
+        body = ast.parse(file.read()).body
+    return {part.name: part for part in body if isinstance(part, kind)}
+
+
+class Interface(unittest.TestCase):
+
+    def test_functions(self):
+        for name, listed in FUNCTIONS.items():
+            found = parts_of(name, ast.FunctionDef)
+            for row in listed.split():
+                word, _, arguments = row[:-1].partition("(")
+                self.assertEqual([part.arg for part in found[word].args.args], arguments.split(","), word)
+
+    def test_classes(self):
+        for name, listed in CLASSES.items():
+            found = parts_of(name, ast.ClassDef)
+            for word, methods in listed.items():
+                body = {part.name: part for part in found[word].body if isinstance(part, ast.FunctionDef)}
+                for method, many in methods.items():
+                    self.assertEqual(len(body[method].args.args), many + 1, f"{word}.{method}")
