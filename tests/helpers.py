@@ -3,6 +3,7 @@
 import unittest
 
 from manyheads.patch import Patch
+from manyheads.store import Store
 
 HEAD = ("", 0, 0)
 FOOT = ("", 0, 1)
@@ -32,6 +33,9 @@ ANYTHING = [
     frozenset([1]), range(3), object(), len, int, OWN_LIST, (OWN_LIST, OWN_LIST), deep(3000),
 ]
 
+# In Python these are equal to names and lines, but True and False are no whole numbers.
+EQUALS = [("a", True), ("a", True, 1), ("a", 1, True), ("", False, 0), ("", 0, False), ("", False, 1), ("", 0, True)]
+
 
 def putting(name, knows=(), texts=("x",), above=HEAD, below=FOOT):
     """A patch with one put."""
@@ -52,3 +56,46 @@ class Case(unittest.TestCase):
             return error
         self.fail(f"{kind.__name__} {fields} was due")
         return None
+
+
+def put_all(patches):
+    """A store that took these patches in."""
+    store = Store()
+    for patch in patches:
+        store.put_patch(patch)
+    return store
+
+
+def ladder(levels):
+    """A store of two patches on each level, each of which knows both of the level below: ways without number."""
+    knows, patches = [], []
+    for level in range(1, levels + 1):
+        patches += [putting((hand, level), knows) for hand in ("a", "b")]
+        knows = [("a", level), ("b", level)]
+    return put_all(patches)
+
+
+def chances(seed):
+    """Numbers without end that look like chance, the same ones each time."""
+    while True:
+        seed = (seed * 1103515245 + 12345) & 0x7FFFFFFF
+        yield seed >> 8
+
+
+def web(seed, many):
+    """A dict from names to what they know directly, each behind what it knows."""
+    some = chances(seed + 1)
+    made = {}
+    while len(made) < many:
+        name = ("abcd"[next(some) % 4], next(some) % 30 + 1)
+        if name not in made:
+            made[name] = sorted({list(made)[next(some) % len(made)] for _ in range(next(some) % 4)} if made else [])
+    return made
+
+
+def all_known(made, names):
+    """All that some names of a web know altogether, told by the promise's own words."""
+    known = set()
+    for name in names:
+        known |= set(made[name]) | all_known(made, made[name])
+    return known

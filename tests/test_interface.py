@@ -7,10 +7,15 @@ import unittest
 PACKAGE = os.path.join(os.path.dirname(os.path.dirname(os.path.abspath(__file__))), "manyheads")
 
 CLASSES = {
-    "errors.py": {"HeadsError": {}, "BadRow": {"__init__": 2}, "BadPatch": {"__init__": 1}, "NotClosed": {"__init__": 1},
+    "errors.py": {"HeadsError": {}, "BadRow": {"__init__": 2}, "BadPatch": {"__init__": 1},
+                  "NotClosed": {"__init__": 1},
                   "Unlike": {"__init__": 1}, "Hindered": {"__init__": 1}, "BadPaper": {"__init__": 1},
                   "BadPack": {"__init__": 1}, "BadHunt": {}, "BadMessage": {}, "OutOfPlace": {}},
     "patch.py": {"Patch": {"__init__": 3, "told": 0}},
+    "store.py": {"Store": {"put_patch": 1, "names": 0, "patch_of": 1, "knows_all": 1, "closed_by": 1, "heads": 0,
+                           "head_set": 1, "set_head": 2, "drop_head": 1, "merge_heads": 2, "pick": 2, "take_out": 2,
+                           "take_with": 2, "sweep": 1, "copied": 0}},
+    "knowing.py": {"View": {"__init__": 2, "names": 0, "patch_of": 1, "add_patch": 1, "copied": 0}},
 }
 FUNCTIONS = {
     "words.py": "is_whole(thing) is_among(thing,least,most) is_word(thing) is_hand(thing) is_name(thing) "
@@ -18,6 +23,10 @@ FUNCTIONS = {
                 "line_text(line) words_of(row)",
     "patch.py": "lines_put(patch) bindings_of(patch) marks_in(patch) lines_named(deed)",
     "patchtext.py": "patch_rows(patch) patches_text(patches)",
+    "patchread.py": "read_patches(text)",
+    "knowing.py": "known_by(view,name) knows_it(view,one,other) knowing_way(view,one,other)",
+    "marks.py": "all_lines(view) text_of(view,line) marks_of(view,line) last_marks(view,line) state_of(view,line) "
+                "told_lines(view)",
 }
 
 

@@ -2,7 +2,7 @@
 
 from manyheads.errors import BadPatch
 from manyheads.patch import Patch, bindings_of, lines_named, lines_put, marks_in
-from helpers import ANYTHING, Case, FOOT, HEAD, putting
+from helpers import ANYTHING, EQUALS, Case, FOOT, HEAD, putting
 
 ANN = ("ann", 1)
 OTHER = ("bob", 1, 1)
@@ -22,7 +22,7 @@ GOOD_DEEDS = [
     ("order", OTHER, ("ann", 2, 1)),
 ]
 
-BAD_DEEDS = ANYTHING + [
+BAD_DEEDS = ANYTHING + EQUALS + [
     ("put", HEAD, FOOT), ("put", HEAD, FOOT, ("x",), 1), ("put",), ["put", HEAD, FOOT, ("x",)],
     ("Put", HEAD, FOOT, ("x",)), ("puts", HEAD, FOOT, ("x",)), (b"put", HEAD, FOOT, ("x",)),
     ("put", HEAD, FOOT, ()), ("put", HEAD, FOOT, ["x"]), ("put", HEAD, FOOT, "x"), ("put", HEAD, FOOT, ("x",) * 201),
@@ -75,7 +75,7 @@ class Making(Case):
     def test_names(self):
         for name in (("a", 1), ("abcdefgh", 999)):
             self.assertEqual(Patch(name, [], []).told()[0], name)
-        for name in ANYTHING + [["ann", 1], "ann.1", "ann"]:
+        for name in ANYTHING + EQUALS + [["ann", 1], "ann.1", "ann"]:
             self.refused(BadPatch, {"deed": 0}, Patch, name, [], [])
 
     def test_known(self):

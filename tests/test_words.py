@@ -51,7 +51,8 @@ class Names(Case):
     def test_end(self):
         self.assertIs(words.is_end(HEAD), True)
         self.assertIs(words.is_end(FOOT), True)
-        for thing in (("", 0, 2), ("", 0, -1), ("", 1, 0), ("", 0), ["", 0, 0], ("", False, 0), ("", 0, False),
+        for thing in (("", 0, 2), ("", 0, -1), ("", 1, 0), ("", -1, 0), ("", 0), ["", 0, 0], ("", False, 0),
+                      ("", 0, False),
                       ("", 0, True), ("", False, True), ("a", 0, 0), ("a", 1, 1), (b"", 0, 0), "head", "foot"):
             self.assertIs(words.is_end(thing), False)
 
@@ -63,6 +64,8 @@ class Names(Case):
             self.assertIn(words.is_whole(thing), (True, False))
             self.assertIn(words.is_among(thing, 1, 9), (True, False))
             self.assertIs(words.is_among(1, thing, None), False)
+            self.assertIs(words.is_among(1, None, thing), False)
+            self.assertIs(words.is_among(thing, [], {}), False)
 
 
 class Words(Case):
