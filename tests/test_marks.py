@@ -103,8 +103,7 @@ class Marks(Case):
     def test_lines_that_are_not_there(self):
         view = self.view(A1, B1)
         for thing in ANYTHING + EQUALS + [("a", 1, 4), ("d", 1, 1), ("b", 1, 1), ("z", 9, 1), list(ONE), list(HEAD),
-                [ONE],
-                                 ("a", 1), ("a", 1, 10 ** 30)]:
+                                          [ONE], ("a", 1), ("a", 1, 10 ** 30)]:
             for ask in (text_of, marks_of, last_marks, state_of):
                 self.refused(OutOfPlace, {}, ask, view, thing)
         self.refused(OutOfPlace, {}, state_of, self.view(), ONE)

@@ -52,8 +52,8 @@ class Names(Case):
         self.assertIs(words.is_end(HEAD), True)
         self.assertIs(words.is_end(FOOT), True)
         for thing in (("", 0, 2), ("", 0, -1), ("", 1, 0), ("", -1, 0), ("", 0), ["", 0, 0], ("", False, 0),
-                      ("", 0, False),
-                      ("", 0, True), ("", False, True), ("a", 0, 0), ("a", 1, 1), (b"", 0, 0), "head", "foot"):
+                      ("", 0, False), ("", 0, True), ("", False, True), ("a", 0, 0), ("a", 1, 1), (b"", 0, 0),
+                      "head", "foot"):
             self.assertIs(words.is_end(thing), False)
 
     def test_of_anything(self):
