@@ -23,6 +23,8 @@ class View:
         self.known = {}
         self.texts = {}
         self.marks = {}
+        # What the bindings come to is found when it is first asked for.
+        self.reach = None
         inside = set(names)
         # In a store what a patch knows came ahead of it.
         for name in self.store.patches:
@@ -58,6 +60,7 @@ class View:
     def _take(self, name):
         """Take in a patch of which the set has all that it knows."""
         patch = self.store.patches[name]
+        self.reach = None
         known = 0
         for other in patch.knows:
             known = known | self.known[other] | (1 << self.places[other])

@@ -27,6 +27,11 @@ FUNCTIONS = {
     "knowing.py": "known_by(view,name) knows_it(view,one,other) knowing_way(view,one,other)",
     "marks.py": "all_lines(view) text_of(view,line) marks_of(view,line) last_marks(view,line) state_of(view,line) "
                 "told_lines(view)",
+    "order.py": "bound_behind(view,line) is_ahead(view,one,other) all_behind(view,line) way_ahead(view,one,other) "
+                "no_way(view,one,other)",
+    "rings.py": "ring_of(view,line) rings_of(view) loose_pairs(view)",
+    "sheet.py": "knots(view) knot_of(view,line) told_row(view) sheet_texts(view)",
+    "quarrels.py": "quarrels(view) is_plain(view) ways_to_settle(view,quarrel)",
 }
 
 

@@ -17,6 +17,7 @@ METHODS = set(
     "append clear copy count endswith extend find get index insert isalnum isalpha isdigit islower isspace isupper "
     "items join keys ljust lower lstrip partition pop remove replace reverse rfind rjust rpartition rsplit rstrip "
     "setdefault split splitlines startswith strip update upper values zfill bit_length sort add discard".split())
+LIBRARY = {"heapq": {"heappush", "heappop"}}
 BARRED = set(
     "register mro elements open input law version_info with_traceback add_note attrgetter breakpoint builtins compile "
     "copyright credits delattr dir eval exec exit gc getattr globals hasattr help id importlib license locals "
@@ -130,6 +131,10 @@ class Language(unittest.TestCase):
             reached[name] = []
             for node in tree.body:
                 if not isinstance(node, ast.ImportFrom):
+                    continue
+                if node.module in LIBRARY:
+                    self.assertLessEqual({part.name for part in node.names}, LIBRARY[node.module], name)
+                    self.assertTrue(all(part.asname is None for part in node.names), name)
                     continue
                 folder, _, module = node.module.partition(".")
                 self.assertEqual((folder, node.level), ("manyheads", 0), name)
