@@ -70,7 +70,7 @@ def _can_put(above, below, texts, own, many):
         return False
     if not isinstance(texts, tuple) or not 1 <= len(texts) <= MOST_TEXTS:
         return False
-    return all(_is_text(text) for text in texts)
+    return all(is_text(text) for text in texts)
 
 
 def _can_order(one, other, own, many):
@@ -83,7 +83,7 @@ def _can_name(line, own, many):
     return is_put_line(line) and (line[:2] != own or line[2] <= many)
 
 
-def _is_text(thing):
+def is_text(thing):
     """Whether a thing can be a line's text."""
     return isinstance(thing, str) and len(thing) <= MOST_SIGNS and "\n" not in thing
 
@@ -101,10 +101,15 @@ def lines_put(patch):
 
 def bindings_of(patch):
     """For each deed the pairs of lines that it binds, the first ahead of the second."""
-    hand, number = patch.name
+    return bindings_in(patch.name, patch.deeds)
+
+
+def bindings_in(name, deeds):
+    """For each deed of a patch of this name the pairs of lines that it binds."""
+    hand, number = name
     many = 0
     found = []
-    for deed in patch.deeds:
+    for deed in deeds:
         row = []
         if deed[0] == "put":
             new = [(hand, number, many + k) for k in range(1, len(deed[3]) + 1)]
@@ -118,17 +123,22 @@ def bindings_of(patch):
 
 def marks_in(patch):
     """The last mark of each line that a patch marks, by lines rising."""
-    hand, number = patch.name
+    return sorted(marks_by(patch.name, patch.deeds).items())
+
+
+def marks_by(name, deeds):
+    """For each line that a patch of this name marks its last mark."""
+    hand, number = name
     many = 0
     marks = {}
-    for deed in patch.deeds:
+    for deed in deeds:
         if deed[0] == "put":
             for _ in deed[3]:
                 many += 1
                 marks[(hand, number, many)] = "keep"
         if deed[0] in ("cut", "keep"):
             marks[deed[1]] = deed[0]
-    return sorted(marks.items())
+    return marks
 
 
 def lines_named(deed):

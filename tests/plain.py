@@ -104,36 +104,51 @@ class Plain:
 
 
 def line_web(seed, many=7, hands="abc", most_deeds=5):
-    """A store of patches of several hands that put, cut, keep and order lines of those that they know, or some of them."""
+    """A store of patches of several hands that put, cut, keep and order lines of those that they know, or some of them.
+
+    With two of three seeds all know a first patch with a few lines, and few deeds go against the order that is known.
+    """
     some = chances(seed * 7 + 3)
+    based = seed % 3 != 0
     patches, known_by, lines_of = [], {}, {}
     for at in range(many):
         hand = hands[next(some) % len(hands)]
         name = (hand, sum(1 for other in known_by if other[0] == hand) + 1)
-        knows = sorted({list(known_by)[next(some) % at] for _ in range(next(some) % 4)} if at else [])
-        known = set(knows).union(*[known_by[other] for other in knows])
+        knows = {list(known_by)[next(some) % at] for _ in range(next(some) % 4)} if at else set()
+        knows |= set(list(known_by)[:1]) if based else set()
+        known = knows.union(*[known_by[other] for other in knows])
         lines = [line for other in sorted(known) for line in lines_of[other]]
-        deeds, own = [], []
-        for _ in range(1 + next(some) % most_deeds):
-            there = lines + own
-            picked = [there[next(some) % len(there)] for _ in range(2)] if there else [None, None]
-            kind = ("put", "put", "cut", "keep", "order", "order")[next(some) % 6] if there else "put"
-            if kind == "put":
-                above = picked[0] if there and next(some) % 3 else HEAD
-                below = picked[1] if there and next(some) % 3 else FOOT
-                if above == below:
-                    continue
+        deeds = _some_deeds(some, name, lines, 1 + next(some) % most_deeds, based)
+        if based and not at:
+            deeds = [("put", HEAD, FOOT, tuple("vwxyz"[:2 + next(some) % 4]))]
+        patches.append(Patch(name, sorted(knows), deeds))
+        known_by[name] = known
+        lines_of[name] = [(*name, place + 1) for place in range(sum(len(deed[3]) for deed in deeds if deed[0] == "put"))]
+    return put_all(patches)
+
+
+def _some_deeds(some, name, lines, many, based):
+    """Deeds of a patch that knows these lines."""
+    deeds, there, own = [], list(lines), 0
+    for _ in range(many):
+        picked = [there[next(some) % len(there)] for _ in range(2)] if there else [HEAD, FOOT]
+        if based and next(some) % 8:
+            picked = sorted(picked, key=there.index) if there else picked
+        kind = ("put", "put", "cut", "keep", "cut" if based else "order", "order")[next(some) % 6] if there else "put"
+        if kind == "put":
+            above = picked[0] if next(some) % (9 if based else 3) else HEAD
+            below = picked[1] if next(some) % (9 if based else 3) else FOOT
+            if above != below:
                 texts = tuple("xyz"[next(some) % 3] for _ in range(1 + next(some) % 3))
                 deeds.append(("put", above, below, texts))
-                own += [(*name, len(own) + 1 + k) for k in range(len(texts))]
-            elif kind == "order":
-                if picked[0] != picked[1]:
-                    deeds.append(("order", *picked))
-            else:
-                deeds.append((kind, picked[0]))
-        patches.append(Patch(name, knows, deeds))
-        known_by[name], lines_of[name] = known, own
-    return put_all(patches)
+                there += [(*name, own + 1 + k) for k in range(len(texts))]
+                own += len(texts)
+        elif kind != "order":
+            # Some lines are marked by many.
+            deeds.append((kind, there[next(some) % min(len(there), 3)]))
+        elif picked[0] != picked[1]:
+            deeds.append(("order", *picked))
+    return deeds
 
 
 def plain_of(view):

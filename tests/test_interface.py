@@ -32,6 +32,10 @@ FUNCTIONS = {
     "rings.py": "ring_of(view,line) rings_of(view) loose_pairs(view)",
     "sheet.py": "knots(view) knot_of(view,line) told_row(view) sheet_texts(view)",
     "quarrels.py": "quarrels(view) is_plain(view) ways_to_settle(view,quarrel)",
+    "alike.py": "least_change(rows,others) least_cost(rows,others)",
+    "record.py": "recorded(store,head,hand,rows)",
+    "paper.py": "paper_for(view,claim) claims_of(view)",
+    "check.py": "check(patches,names,claim,paper)",
 }
 
 

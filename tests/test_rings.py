@@ -86,7 +86,7 @@ class Rings(Case):
             pairs = [(one, other) for one in plain.told for other in plain.told if one < other and plain.loose(one, other)]
             self.assertEqual(loose_pairs(view), pairs)
             rings += len(rings_of(view))
-        self.assertGreater(rings, 20)
+        self.assertGreater(rings, 10)
 
     def test_a_ring_of_very_many_lines(self):
         store = put_all([Patch(A1, [], [("put", HEAD, FOOT, ("x",) * 200)] + [
