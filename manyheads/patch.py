@@ -16,16 +16,13 @@ class Patch:
             raise BadPatch(0)
         if not isinstance(deeds, list) or len(deeds) > MOST_DEEDS:
             raise BadPatch(0)
-        many = 0
-        for at, deed in enumerate(deeds, start=1):
-            if not _can_do(deed, name, many):
-                raise BadPatch(at)
-            if deed[0] == "put":
-                many += len(deed[3])
+        good = _many_deeds(deeds)
+        self.many = _many_put(name, deeds[:good])
+        if good < len(deeds):
+            raise BadPatch(good + 1)
         self.name = name
         self.knows = tuple(knows)
         self.deeds = tuple(deeds)
-        self.many = many
 
     def told(self):
         """Its name, what it knows directly, and its deeds."""
@@ -34,8 +31,21 @@ class Patch:
 
 def patch_again(patch):
     """Another Patch that tells the same."""
-    name, knows, deeds = patch.told()
-    return Patch(name, knows, deeds)
+    return _patch_with(patch.name, patch.knows, patch.deeds, patch.many)
+
+
+def patch_of_parts(name, knows, deeds):
+    """A Patch of parts that are good each by itself, as reading sees to it; so they aren't looked at again."""
+    return _patch_with(name, tuple(knows), tuple(deeds), _many_put(name, deeds))
+
+
+def _patch_with(name, knows, deeds, many):
+    """A Patch of good parts that nobody else can change."""
+    patch = Patch(name, [], [])
+    patch.knows = knows
+    patch.deeds = deeds
+    patch.many = many
+    return patch
 
 
 def _can_know(own, knows):
@@ -50,37 +60,56 @@ def _can_know(own, knows):
     return True
 
 
-def _can_do(deed, own, many):
-    """Whether a patch that has put so many lines can do this deed next."""
-    if not isinstance(deed, tuple) or len(deed) < 2 or not isinstance(deed[0], str):
-        return False
-    if deed[0] == "put":
-        return len(deed) == 4 and _can_put(deed[1], deed[2], deed[3], own, many)
-    if deed[0] == "order":
-        return len(deed) == 3 and _can_order(deed[1], deed[2], own, many)
-    return deed[0] in ("cut", "keep") and len(deed) == 2 and _can_name(deed[1], own, many)
+def _many_deeds(things):
+    """How many things there are ahead of the first that is no deed by itself."""
+    for at, thing in enumerate(things):
+        if not _is_deed(thing):
+            return at
+    return len(things)
 
 
-def _can_put(above, below, texts, own, many):
-    """Whether texts can be put between these two lines."""
-    for line in (above, below):
-        if not is_end(line) and not _can_name(line, own, many):
-            return False
-    if above == FOOT or below == HEAD or above == below:
+def _is_deed(thing):
+    """Whether a thing is a deed, as far as each part of it tells by itself."""
+    if not isinstance(thing, tuple) or len(thing) < 2 or not isinstance(thing[0], str):
         return False
+    if thing[0] in ("cut", "keep"):
+        return len(thing) == 2 and is_put_line(thing[1])
+    if thing[0] == "order":
+        return len(thing) == 3 and is_put_line(thing[1]) and is_put_line(thing[2])
+    return thing[0] == "put" and len(thing) == 4 and _can_put(thing[1], thing[2], thing[3])
+
+
+def _can_put(above, below, texts):
+    """Whether texts can be put between two things, by what these are."""
     if not isinstance(texts, tuple) or not 1 <= len(texts) <= MOST_TEXTS:
         return False
-    return all(is_text(text) for text in texts)
+    if not is_put_line(above) and not is_end(above) or not is_put_line(below) and not is_end(below):
+        return False
+    return all([is_text(text) for text in texts])
 
 
-def _can_order(one, other, own, many):
-    """Whether a line can be ordered ahead of another one."""
-    return _can_name(one, own, many) and _can_name(other, own, many) and one != other
+def _many_put(name, deeds):
+    """How many lines a patch of this name puts; refused at the first deed that can't be behind those ahead of it."""
+    many = 0
+    for at, deed in enumerate(deeds, start=1):
+        if not _can_do(deed, name, many):
+            raise BadPatch(at)
+        if deed[0] == "put":
+            many += len(deed[3])
+    return many
 
 
-def _can_name(line, own, many):
-    """Whether this is a line, not head or foot, that a patch can name."""
-    return is_put_line(line) and (line[:2] != own or line[2] <= many)
+def _can_do(deed, own, many):
+    """Whether a patch of this name that has put so many lines can do a deed, which is one by itself."""
+    one = deed[1]
+    if one[2] > many and one[:2] == own:
+        return False
+    if len(deed) == 2:
+        return True
+    other = deed[2]
+    if other[2] > many and other[:2] == own:
+        return False
+    return one != other and one != FOOT and other != HEAD
 
 
 def is_text(thing):
@@ -143,4 +172,4 @@ def marks_by(name, deeds):
 
 def lines_named(deed):
     """The lines but head and foot that a deed names, as it names them."""
-    return [line for line in deed[1:3] if is_put_line(line)]
+    return [line for line in deed[1:3] if line != HEAD and line != FOOT]

@@ -1,7 +1,7 @@
 """Reading patches from text, row by row."""
 
 from manyheads.errors import BadRow
-from manyheads.patch import MOST_DEEDS, MOST_SIGNS, MOST_TEXTS, Patch
+from manyheads.patch import MOST_DEEDS, MOST_SIGNS, MOST_TEXTS, patch_of_parts
 from manyheads.words import is_end, is_hand, is_name, line_of, name_of, number_of, words_of
 
 # How many lines a deed's row names.
@@ -14,14 +14,16 @@ def read_patches(text):
         raise BadRow(1, 0)
     rows = text.split("\n")
     told = []
+    # The lines that words told so far: the same lines are named again and again.
+    lines = {}
     at = 0
     while at < len(rows):
         name = _read_name(rows, at)
         knows = _read_known(rows, at + 1, name)
-        deeds, at = _read_deeds(rows, at + 2)
+        deeds, at = _read_deeds(rows, at + 2, lines)
         told.append((name, knows, deeds))
     # Patches are made only here: any row that can't stand is ahead of any patch that can't be.
-    return [Patch(name, knows, deeds) for name, knows, deeds in told]
+    return [patch_of_parts(name, knows, deeds) for name, knows, deeds in told]
 
 
 def _words_at(rows, at):
@@ -69,18 +71,18 @@ def _read_known(rows, at, own):
     return known
 
 
-def _read_deeds(rows, at):
+def _read_deeds(rows, at, known):
     """The deeds from a place on, and the place of the next patch's row or of the end."""
     deeds = []
     while at < len(rows):
         words = _words_at(rows, at)
-        if words[0] == "patch":
-            break
         if words[0] not in LINES_OF:
+            if words[0] == "patch":
+                break
             raise BadRow(at + 1, 1)
         if len(deeds) == MOST_DEEDS:
             raise BadRow(at + 1, 0)
-        lines = _lines_told(words, at)
+        lines = _lines_told(words, at, known)
         at += 1
         if words[0] == "put":
             texts = _read_texts(rows, at)
@@ -91,17 +93,19 @@ def _read_deeds(rows, at):
     return deeds, at
 
 
-def _lines_told(words, at):
-    """The lines that a deed's row names."""
+def _lines_told(words, at, known):
+    """The lines that a deed's row names; what its words tell is known then."""
     many = LINES_OF[words[0]]
     lines = []
-    for place in range(1, many + 1):
-        line = line_of(words[place]) if place < len(words) else None
+    for place, word in enumerate(words[1:many + 1], start=1):
+        if word not in known:
+            known[word] = line_of(word)
+        line = known[word]
         if line is None or (is_end(line) and words[0] != "put"):
             raise BadRow(at + 1, place + 1)
         lines.append(line)
-    if len(words) > many + 1:
-        raise BadRow(at + 1, many + 2)
+    if len(words) != many + 1:
+        raise BadRow(at + 1, min(len(words), many + 1) + 1)
     return lines
 
 

@@ -2,8 +2,9 @@
 
 HEAD = ("", 0, 0)
 FOOT = ("", 0, 1)
-LETTERS = "abcdefghijklmnopqrstuvwxyz"
-FIGURES = "0123456789"
+MOST_LETTERS = 8
+MOST_NUMBER = 999
+MOST_FIGURES = 6
 
 
 def is_whole(thing):
@@ -18,9 +19,10 @@ def is_among(thing, least, most):
 
 def is_word(thing):
     """Whether a thing is a head's name."""
-    if not isinstance(thing, str) or not 1 <= len(thing) <= 8:
+    if not isinstance(thing, str) or len(thing) > MOST_LETTERS:
         return False
-    return all(sign in LETTERS for sign in thing)
+    # Of ASCII just the letters from a to z are letters and small; an empty text is neither.
+    return thing.isascii() and thing.isalpha() and thing.islower()
 
 
 def is_hand(thing):
@@ -28,18 +30,24 @@ def is_hand(thing):
     return is_word(thing) and thing not in ("head", "foot", "none")
 
 
+# Names are looked at so often that they are taken apart just once, and True is told from 1 without a call.
+
 def is_name(thing):
     """Whether a thing is a patch's name."""
     if not isinstance(thing, tuple) or len(thing) != 2:
         return False
-    return is_hand(thing[0]) and is_among(thing[1], 1, 999)
+    hand, number = thing
+    return isinstance(number, int) and number is not True and 1 <= number <= MOST_NUMBER and is_hand(hand)
 
 
 def is_put_line(thing):
     """Whether a thing is the name of a line that a patch may put."""
     if not isinstance(thing, tuple) or len(thing) != 3:
         return False
-    return is_name(thing[:2]) and is_whole(thing[2]) and thing[2] >= 1
+    hand, number, place = thing
+    if not isinstance(number, int) or not isinstance(place, int) or number is True or place is True:
+        return False
+    return 1 <= number <= MOST_NUMBER and place >= 1 and is_hand(hand)
 
 
 def is_end(thing):
@@ -52,9 +60,9 @@ def is_end(thing):
 
 def number_of(word):
     """The number that a word tells, or None."""
-    if not isinstance(word, str) or not 1 <= len(word) <= 6 or word[0] == "0":
+    if not isinstance(word, str) or len(word) > MOST_FIGURES or not word.isdigit():
         return None
-    if not all(sign in FIGURES for sign in word):
+    if word[0] == "0" or not word.isascii():
         return None
     return int(word)
 

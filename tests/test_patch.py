@@ -71,6 +71,13 @@ class Making(Case):
         deeds = [PUT, ("cut", HEAD), PUT, ("order", OTHER, OTHER), None]
         self.refused(BadPatch, {"deed": 2}, Patch, ANN, [], deeds)
         self.refused(BadPatch, {"deed": 3}, Patch, ANN, [], [PUT, PUT] + deeds[3:])
+        # What is no deed by itself, and what is none behind those ahead of it, in either order.
+        for wrong in (("cut", ("ann", 1, 3)), ("put", FOOT, OTHER, ("x",)), ("order", OTHER, OTHER), ("put", OTHER, HEAD, ("x",))):
+            for other in (None, ("cut", HEAD), ("put", HEAD, FOOT, ())):
+                self.refused(BadPatch, {"deed": 2}, Patch, ANN, [], [PUT, wrong, other, PUT])
+                self.refused(BadPatch, {"deed": 2}, Patch, ANN, [], [PUT, other, wrong, PUT])
+                self.refused(BadPatch, {"deed": 4}, Patch, ANN, [], [PUT, PUT, PUT, other])
+                self.refused(BadPatch, {"deed": 0}, Patch, ANN, [ANN], [wrong, other])
 
     def test_names(self):
         for name in (("a", 1), ("abcdefgh", 999)):

@@ -1,6 +1,7 @@
 """[5], [6]: reading the text of patches."""
 
 import re
+import time
 
 from manyheads.errors import BadPatch, BadRow
 from manyheads.patch import Patch
@@ -251,6 +252,45 @@ class Reading(Case):
                     for behind in (place, place + 1):
                         new = " ".join(words[:place] + [word] + words[behind:])
                         self.see("\n".join(rows[:at] + [new] + rows[at + 1:]))
+
+    def test_words_told_before(self):
+        # What a word told in one row holds in all others, but not where it may not stand.
+        start = "patch ann 1\nknows none\nput head foot\n+x\n"
+        for rows, row, word in (
+                ("cut head", 5, 2), ("cut bob.1.1\ncut bob.1.1 bob.1.1", 6, 3), ("put foot head\n+x\norder head bob.1.1", 7, 2),
+                ("order bob.1.1 bob.1.2\norder bob.1.2", 6, 3), ("cut bob.1.1\ncut bob.1.01", 6, 2),
+                ("cut bob.1.1\npatch bob.1.1 1", 6, 2), ("cut bob.1.1\npatch cid 1\nknows bob.1.1", 7, 2)):
+            self.bad_row(start + rows, row, word)
+        text = start + "cut bob.1.1\npatch cid 1\nknows none\nput head foot\n+y\ncut bob.1.1\ncut ann.1.1"
+        self.assertEqual([patch.told()[2][-2:] for patch in read_patches(text)], [
+            [("put", HEAD, FOOT, ("x",)), ("cut", ("bob", 1, 1))], [("cut", ("bob", 1, 1)), ("cut", ("ann", 1, 1))]])
+        # A line of its own is one patch's only.
+        self.refused(BadPatch, {"deed": 1}, read_patches, start + "cut ann.1.1\npatch cid 1\nknows none\ncut cid.1.1")
+        self.refused(BadPatch, {"deed": 2}, read_patches, start + "cut ann.1.2\npatch cid 1\nknows none\ncut ann.1.2")
+
+    def test_a_long_patch_takes_no_long_time(self):
+        # It is weighed against what must be done anyhow, several times, as other work may be going on beside.
+        long = "patch abcdefgh 999\nknows none" + "\ncut q.1.1" * 400
+        unlike = "patch abcdefgh 999\nknows none" + "".join(f"\ncut q.{at + 1}.{at + 7}" for at in range(400))
+        for text, most in ((long, 22), (long + "\ncut", 16), (long + "\nput head", 16), (unlike, 30)):
+            self.assertLess(min(self.weight(text) for _ in range(5)), most)
+
+    def weight(self, text):
+        """How many times as long reading a text takes as parting it into words."""
+        def once(act):
+            start = time.perf_counter()
+            for _ in range(10):
+                act(text)
+            return time.perf_counter() - start
+
+        def read(text):
+            try:
+                read_patches(text)
+            except BadRow:
+                pass
+
+        return min(once(read) for _ in range(5)) / min(once(lambda text: [row.split(" ") for row in text.split("\n")])
+                                                       for _ in range(5))
 
     def test_what_is_told_is_the_askers_own(self):
         read = read_patches(TEXT)

@@ -25,13 +25,14 @@ class Names(Case):
     def test_word(self):
         for thing in ("a", "z", "abcdefgh", "head", "foot", "none"):
             self.assertIs(words.is_word(thing), True)
-        for thing in ("", "abcdefghi", "A", "aB", "a1", "a ", " a", "a.b", "a\n", b"a", ["a"], ("a",), None, True):
+        for thing in ("", "abcdefghi", "A", "aB", "a1", "a ", " a", "a.b", "a\n", b"a", ["a"], ("a",), None, True, "Ab", "AB",
+                      "\u00e9", "a\u00df", "\u0430", "\u00aa", "\uff41", "a_", "a-b", "a" * 10 ** 6, "1", "_"):
             self.assertIs(words.is_word(thing), False)
 
     def test_hand(self):
         for thing in ("a", "abcdefgh", "heads", "hea", "nones", "foots"):
             self.assertIs(words.is_hand(thing), True)
-        for thing in ("", "abcdefghi", "head", "foot", "none", "A", "a1", b"a", ["a"], None, 1):
+        for thing in ("", "abcdefghi", "head", "foot", "none", "A", "a1", b"a", ["a"], None, 1, "\u00e9", "a\u00df", "aA"):
             self.assertIs(words.is_hand(thing), False)
 
     def test_name(self):
@@ -74,7 +75,7 @@ class Words(Case):
         for word, number in (("1", 1), ("9", 9), ("10", 10), ("999999", 999999), ("100000", 100000)):
             self.assertEqual(words.number_of(word), number)
         for word in ("0", "01", "00", "007", "1000000", "1234567", "", "-1", "+1", "1.0", "1_0", " 1", "1 ", "1\n",
-                     "a", "1a", "\u0663", "\u00b2", 1, True, None, ["1"], ("1",), b"1"):
+                     "a", "1a", "\u0663", "\u00b2", "1\u0663", "\uff11", "9" * 10 ** 6, 1, True, None, ["1"], ("1",), b"1"):
             self.assertIsNone(words.number_of(word), word)
 
     def test_name_of(self):
