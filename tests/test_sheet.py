@@ -1,6 +1,7 @@
 """[50], [51]: knots and the told row; and that all follows from the set of patches alone."""
 
 from itertools import product
+from unittest.mock import patch
 
 from manyheads.errors import OutOfPlace
 from manyheads.knowing import View
@@ -169,6 +170,20 @@ class Sheets(Case):
             first.reverse()
             first.pop()
             self.assertEqual(told_of(view), due)
+
+    def test_as_of_very_many_lines(self):
+        # What is kept of few rings in one number is the same when it is kept in several.
+        for seed in range(15):
+            store = line_web(seed, 3 + seed % 5)
+            plain = plain_of(View(store, store.names()))
+            due = told_of(View(store, store.names()))
+            for block in (1, 2, 3, 8):
+                with patch("manyheads.reach.BLOCK", block), patch("manyheads.rings.BLOCK", block), \
+                        patch("manyheads.sheet.BLOCK", block):
+                    view = View(store, store.names())
+                    self.assertEqual(told_of(view), due)
+                    for one, other in product(plain.lines, plain.lines):
+                        self.assertIs(is_ahead(view, one, other), (one, other) in plain.ahead)
 
     def test_very_many_lines(self):
         loose = put_all([Patch(A1, [], [("put", HEAD, FOOT, ("x",) * 20)] * 300)])
