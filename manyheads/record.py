@@ -62,7 +62,8 @@ def _joins(view, kept, places, rows):
         between = rows[ends[at] + 1:ends[at + 1]]
         if between:
             deeds.append(("put", above, below, tuple(between)))
-        elif above != HEAD and below != FOOT and not is_ahead(view, above, below):
+        # The head line is ahead of all others, and these of the foot line: no order names one of the two.
+        elif not is_ahead(view, above, below):
             deeds.append(("order", above, below))
     return deeds
 

@@ -138,6 +138,19 @@ class Papers(Case):
         for claim in claims_of(view):
             self.see(view, claim, True)
 
+    def test_lines_that_came_in_another_order(self):
+        # Lines of later hands come first, and are marked by the earlier hands, which put lines themselves.
+        b1, b2 = ("b", 1, 1), ("b", 1, 2)
+        store = put_all([putting(B1, texts="pqr"), Patch(A1, [B1], [("cut", b2), ("cut", b1), ("put", b1, b2, ("x", "y"))]),
+                         Patch(C1, [A1], [("cut", X), ("keep", b1)]), Patch(D1, [A1], [("keep", X), ("keep", Y), ("cut", Y)]),
+                         Patch(("a", 2), [B1], [("keep", b2)])])
+        view = View(store, store.names())
+        claims = claims_of(view)
+        self.assertEqual(claims, [("torn", X), ("gone", Y), ("stands", b1), ("torn", b2), ("stands", ("b", 1, 3)),
+                                  ("sheet", [[b1], [X], [b2], [("b", 1, 3)]], [X, b2])])
+        for claim in claims + [("knot", [b1]), ("knot", [b2])]:
+            self.see(view, claim, True)
+
     def test_what_is_no_claim(self):
         view = View(ring_store(), [A1, B1, D1])
         things = ANYTHING + EQUALS + [
