@@ -1,8 +1,9 @@
 """Views of a store and a closed set of its patches; what knows what in them."""
 
 from manyheads.errors import NotClosed, OutOfPlace
+from manyheads.lineage import closure, lacking_in, shortest_row
 from manyheads.patch import lines_put, marks_in, patch_again
-from manyheads.store import Store, closure, has_name, has_names, lacking_in
+from manyheads.store import Store, has_name, has_names
 
 
 class View:
@@ -101,23 +102,4 @@ def knowing_way(view, one, other):
     """The shortest knowing way from a patch to another one, of several the least, or None."""
     if not knows_it(view, one, other):
         return None
-    # Each name's neighbour on the least of the shortest ways to it. Levels are in the order of these ways.
-    ahead = {one: one}
-    level = [one]
-    while other not in ahead:
-        level = _next_level(view, level, ahead)
-    way = [other]
-    while way[-1] != one:
-        way.append(ahead[way[-1]])
-    return way[::-1]
-
-
-def _next_level(view, level, ahead):
-    """The names that come to be reached by those of a level, noted in ahead."""
-    found = []
-    for name in level:
-        for known in view.store.patches[name].knows:
-            if known not in ahead:
-                ahead[known] = name
-                found.append(known)
-    return found
+    return shortest_row(view.store.patches, one, other)

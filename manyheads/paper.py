@@ -3,11 +3,11 @@
 from manyheads.claims import is_claim
 from manyheads.errors import BadPaper
 from manyheads.knowing import known_by, knowing_way, knows_it
+from manyheads.lineage import closure
 from manyheads.marks import last_marks, marks_of, state_of
 from manyheads.order import all_behind, is_ahead
 from manyheads.reach import reach_of, steps_from, way_by
 from manyheads.sheet import knots
-from manyheads.store import closure
 
 
 def claims_of(view):

@@ -1,6 +1,7 @@
 """A store of patches, and its heads."""
 
 from manyheads.errors import BadPatch, Hindered, NotClosed, OutOfPlace, Unlike
+from manyheads.lineage import closure, lacking_in
 from manyheads.patch import Patch, lines_named, patch_again
 from manyheads.words import is_name, is_word
 
@@ -13,24 +14,6 @@ def has_name(table, thing):
 def has_names(table, things):
     """Whether something is a list of names in a table."""
     return isinstance(things, list) and all(has_name(table, thing) for thing in things)
-
-
-def closure(patches, names):
-    """The least closed set that has these names, as the keys of a dict."""
-    found = {}
-    left = list(names)
-    while left:
-        name = left.pop()
-        if name not in found:
-            found[name] = True
-            left.extend(patches[name].knows)
-    return found
-
-
-def lacking_in(patches, names):
-    """All that these names know altogether that isn't among them, rising."""
-    inside = set(names)
-    return sorted([name for name in closure(patches, names) if name not in inside])
 
 
 class Store:

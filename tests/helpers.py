@@ -66,6 +66,12 @@ def put_all(patches):
     return store
 
 
+def told_of(store):
+    """All that a store tells."""
+    return ([store.patch_of(name).told() for name in store.names()], [store.knows_all(name) for name in store.names()],
+            [(head, store.head_set(head)) for head in store.heads()])
+
+
 def ladder(levels):
     """A store of two patches on each level, each of which knows both of the level below: ways without number."""
     knows, patches = [], []

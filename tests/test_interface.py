@@ -16,6 +16,11 @@ CLASSES = {
                            "head_set": 1, "set_head": 2, "drop_head": 1, "merge_heads": 2, "pick": 2, "take_out": 2,
                            "take_with": 2, "sweep": 1, "copied": 0}},
     "knowing.py": {"View": {"__init__": 2, "names": 0, "patch_of": 1, "add_patch": 1, "copied": 0}},
+    "hunt.py": {"Hunt": {"__init__": 4, "classes": 0, "question": 0, "tell": 1, "found": 0, "worst": 0, "back": 0}},
+    "history.py": {"History": {"__init__": 1, "here": 0, "how_many": 0, "parent": 1, "children": 1, "latest": 1, "heads_at": 1,
+                               "store_at": 1, "set_head": 2, "drop_head": 1, "merge_heads": 2, "pick": 2, "take_out": 2,
+                               "take_with": 2, "put_patch": 1, "undo": 0, "redo": 0, "go": 1, "way": 2, "sweep": 0, "copied": 0,
+                               "told": 0}},
 }
 FUNCTIONS = {
     "words.py": "is_whole(thing) is_among(thing,least,most) is_word(thing) is_hand(thing) is_name(thing) "
@@ -36,6 +41,11 @@ FUNCTIONS = {
     "record.py": "recorded(store,head,hand,rows)",
     "paper.py": "paper_for(view,claim) claims_of(view)",
     "check.py": "check(patches,names,claim,paper)",
+    "sets.py": "tops(store,names) under(store,names) log_of(store,names) lacking_log(store,head,other) common(store,head,other) "
+               "knowing_row(store,one,other)",
+    "hunt.py": "lead_of(store,pairs,names) hunt_paper(store,bad,goods,pairs)",
+    "huntcheck.py": "check_hunt(patches,bad,goods,pairs,paper)",
+    "history.py": "history_of(store,told)",
 }
 
 

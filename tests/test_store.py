@@ -3,19 +3,13 @@
 from manyheads.errors import BadPatch, Hindered, NotClosed, OutOfPlace, Unlike
 from manyheads.patch import Patch
 from manyheads.store import Store
-from helpers import ANYTHING, EQUALS, Case, FOOT, HEAD, all_known, ladder, put_all, putting, web
+from helpers import ANYTHING, EQUALS, Case, FOOT, HEAD, all_known, ladder, put_all, putting, told_of, web
 
 A1, A2, A3, B1, B2, C1, D1 = ("a", 1), ("a", 2), ("a", 3), ("b", 1), ("b", 2), ("c", 1), ("d", 1)
 ABSENT = ("z", 9)
 
 # a.1 < b.1 < a.2 < c.1, a.1 < b.2 < c.1, c.1 < a.3; d.1 alone.
 WEB = [(A1, []), (D1, []), (B1, [A1]), (B2, [A1]), (A2, [B1]), (C1, [A2, B2]), (A3, [C1])]
-
-
-def told_of(store):
-    """All that a store tells."""
-    return ([store.patch_of(name).told() for name in store.names()], [store.knows_all(name) for name in store.names()],
-            [(head, store.head_set(head)) for head in store.heads()])
 
 
 class StoreCase(Case):
