@@ -121,7 +121,7 @@ class History:
 
     def copied(self):
         """Another history alike."""
-        return _history_with(self.store, self.at, list(self.parents), list(self.next_ones), list(self.tables))
+        return history_with(self.store, self.at, list(self.parents), list(self.next_ones), list(self.tables))
 
     def told(self):
         """The state at which it is, and of each state its parent, the child to which redo leads, and its heads."""
@@ -154,10 +154,10 @@ def history_of(store, told):
     """A history that tells just this, of a store that has all its patches."""
     here, states = told
     tables = [{head: tuple(names) for head, names in heads} for _, _, heads in states]
-    return _history_with(store, here, [parent for parent, _, _ in states], [latest for _, latest, _ in states], tables)
+    return history_with(store, here, [parent for parent, _, _ in states], [latest for _, latest, _ in states], tables)
 
 
-def _history_with(store, at, parents, next_ones, tables):
+def history_with(store, at, parents, next_ones, tables):
     """A history with these states. Tables are never changed, so two histories may have the same ones."""
     history = History(store)
     history.at = at

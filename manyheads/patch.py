@@ -12,7 +12,7 @@ class Patch:
     """A patch. It is never changed, so all that it keeps is in tuples."""
 
     def __init__(self, name, knows, deeds):
-        if not is_name(name) or not _can_know(name, knows):
+        if not is_name(name) or not can_know(name, knows):
             raise BadPatch(0)
         if not isinstance(deeds, list) or len(deeds) > MOST_DEEDS:
             raise BadPatch(0)
@@ -48,7 +48,7 @@ def _patch_with(name, knows, deeds, many):
     return patch
 
 
-def _can_know(own, knows):
+def can_know(own, knows):
     """Whether a patch of this name can know these directly."""
     if not isinstance(knows, list):
         return False
@@ -92,14 +92,14 @@ def _many_put(name, deeds):
     """How many lines a patch of this name puts; refused at the first deed that can't be behind those ahead of it."""
     many = 0
     for at, deed in enumerate(deeds, start=1):
-        if not _can_do(deed, name, many):
+        if not can_do(deed, name, many):
             raise BadPatch(at)
         if deed[0] == "put":
             many += len(deed[3])
     return many
 
 
-def _can_do(deed, own, many):
+def can_do(deed, own, many):
     """Whether a patch of this name that has put so many lines can do a deed, which is one by itself."""
     one = deed[1]
     if one[2] > many and one[:2] == own:

@@ -18,15 +18,15 @@ def read_patches(text):
     lines = {}
     at = 0
     while at < len(rows):
-        name = _read_name(rows, at)
-        knows = _read_known(rows, at + 1, name)
+        name = read_name(rows, at)
+        knows = read_known(rows, at + 1, name)
         deeds, at = _read_deeds(rows, at + 2, lines)
         told.append((name, knows, deeds))
     # Patches are made only here: any row that can't stand is ahead of any patch that can't be.
     return [patch_of_parts(name, knows, deeds) for name, knows, deeds in told]
 
 
-def _words_at(rows, at):
+def words_at(rows, at):
     """The words of the row at a place, from 0."""
     if at >= len(rows):
         raise BadRow(at + 1, 1)
@@ -36,9 +36,9 @@ def _words_at(rows, at):
     return words
 
 
-def _read_name(rows, at):
+def read_name(rows, at):
     """The name that a patch's first row tells."""
-    words = _words_at(rows, at)
+    words = words_at(rows, at)
     if words[0] != "patch":
         raise BadRow(at + 1, 1)
     if len(words) < 2 or not is_hand(words[1]):
@@ -51,9 +51,9 @@ def _read_name(rows, at):
     return name
 
 
-def _read_known(rows, at, own):
+def read_known(rows, at, own):
     """The names that a patch of this name knows directly."""
-    words = _words_at(rows, at)
+    words = words_at(rows, at)
     if words[0] != "knows":
         raise BadRow(at + 1, 1)
     if len(words) < 2:
@@ -75,14 +75,14 @@ def _read_deeds(rows, at, known):
     """The deeds from a place on, and the place of the next patch's row or of the end."""
     deeds = []
     while at < len(rows):
-        words = _words_at(rows, at)
+        words = words_at(rows, at)
         if words[0] not in LINES_OF:
             if words[0] == "patch":
                 break
             raise BadRow(at + 1, 1)
         if len(deeds) == MOST_DEEDS:
             raise BadRow(at + 1, 0)
-        lines = _lines_told(words, at, known)
+        lines = lines_told(words, at, known)
         at += 1
         if words[0] == "put":
             texts = _read_texts(rows, at)
@@ -93,7 +93,7 @@ def _read_deeds(rows, at, known):
     return deeds, at
 
 
-def _lines_told(words, at, known):
+def lines_told(words, at, known):
     """The lines that a deed's row names; what its words tell is known then."""
     many = LINES_OF[words[0]]
     lines = []
@@ -120,6 +120,6 @@ def _read_texts(rows, at):
         at += 1
     if not texts:
         # A row that lacks, or is none, is told ahead of one of another sort.
-        _words_at(rows, at)
+        words_at(rows, at)
         raise BadRow(at + 1, 1)
     return texts

@@ -167,3 +167,13 @@ class Store:
             if other in inside and any(known in found for known in self.patches[other].knows):
                 found[other] = True
         return sorted([other for other in found if other != name])
+
+
+def put_together(store, patches):
+    """Put patches one by one, or none where one is refused; the names that are new to the store, as they came."""
+    other = store.copied()
+    for patch in patches:
+        other.put_patch(patch)
+    new = [name for name in other.patches if name not in store.patches]
+    store.patches = other.patches
+    return new

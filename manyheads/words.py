@@ -5,6 +5,8 @@ FOOT = ("", 0, 1)
 MOST_LETTERS = 8
 MOST_NUMBER = 999
 MOST_FIGURES = 6
+# How many figures of a long number are read at once.
+PART = 1000
 
 
 def is_whole(thing):
@@ -65,6 +67,17 @@ def number_of(word):
     if word[0] == "0" or not word.isascii():
         return None
     return int(word)
+
+
+def count_of(word):
+    """The number from 0 on that a word tells by its figures, however many, or None."""
+    if not isinstance(word, str) or not word.isascii() or not word.isdigit() or (word[0] == "0" and word != "0"):
+        return None
+    number = 0
+    # Python itself reads only so many figures at once.
+    for part in [word[at:at + PART] for at in range(0, len(word), PART)]:
+        number = number * int("1" + "0" * len(part)) + int(part)
+    return number
 
 
 def name_of(word):

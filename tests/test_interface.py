@@ -21,6 +21,8 @@ CLASSES = {
                                "store_at": 1, "set_head": 2, "drop_head": 1, "merge_heads": 2, "pick": 2, "take_out": 2,
                                "take_with": 2, "put_patch": 1, "undo": 0, "redo": 0, "go": 1, "way": 2, "sweep": 0, "copied": 0,
                                "told": 0}},
+    "talk.py": {"Fetch": {"__init__": 1, "asks": 0, "hears": 1, "asked_names": 0, "held": 0}},
+    "shell.py": {"Shell": {"__init__": 0, "say": 1, "history": 0}},
 }
 FUNCTIONS = {
     "words.py": "is_whole(thing) is_among(thing,least,most) is_word(thing) is_hand(thing) is_name(thing) "
@@ -46,6 +48,11 @@ FUNCTIONS = {
     "hunt.py": "lead_of(store,pairs,names) hunt_paper(store,bad,goods,pairs)",
     "huntcheck.py": "check_hunt(patches,bad,goods,pairs,paper)",
     "history.py": "history_of(store,told)",
+    "talk.py": "reply(store,message)",
+    "pack.py": "sum_of(rows) pack_text(kept) thin(store,names,have)",
+    "packread.py": "pack_read(text) thick(store,text)",
+    "story.py": "story(view,line) turns(view,line) who(view) changed(store,head,other)",
+    "shell.py": "told_all(texts)",
 }
 
 

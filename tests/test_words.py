@@ -78,6 +78,15 @@ class Words(Case):
                      "a", "1a", "\u0663", "\u00b2", "1\u0663", "\uff11", "9" * 10 ** 6, 1, True, None, ["1"], ("1",), b"1"):
             self.assertIsNone(words.number_of(word), word)
 
+    def test_count_of(self):
+        for word, number in (("0", 0), ("1", 1), ("10", 10), ("999999", 999999), ("1000000", 10 ** 6), ("9" * 6000, 10 ** 6000 - 1),
+                             ("1" + "0" * 2999, 10 ** 2999)):
+            self.assertEqual(words.count_of(word), number)
+        for word in ("", "00", "01", "007", "-1", "+1", "1.0", "1_0", " 1", "1 ", "1\n", "a", "\u0663", "\u00b2", "none"):
+            self.assertIsNone(words.count_of(word), word)
+        for thing in ANYTHING:
+            self.assertIsNone(words.count_of(thing))
+
     def test_name_of(self):
         for word, name in (("a.1", ("a", 1)), ("abcdefgh.999", ("abcdefgh", 999))):
             self.assertEqual(words.name_of(word), name)

@@ -1,0 +1,69 @@
+"""Stories: how lines came to be what they are, by whom they are told, and what changed between two heads."""
+
+from manyheads.errors import OutOfPlace
+from manyheads.knowing import View, has_place
+from manyheads.lineage import log_in
+from manyheads.marks import last_marks, marks_of
+from manyheads.sheet import told_row
+from manyheads.words import is_put_line
+
+
+def story(view, line):
+    """All marks of a line in the order of the set's log, each with its patch's name."""
+    return [(name, _word_for(view, line, name, mark)) for name, mark in _marks_by_log(view, line)]
+
+
+def turns(view, line):
+    """The patches of the set's log with which a line comes to be something else than ahead of them, and what."""
+    found = []
+    # The last marks of those so far.
+    last = []
+    for name, mark in _marks_by_log(view, line):
+        known = view.known[name]
+        last = [(other, word) for other, word in last if not has_place(known, view.places[other])] + [(name, mark)]
+        words = [word for _, word in last]
+        state = "stands" if "cut" not in words else "torn" if "keep" in words else "gone"
+        if not found or found[-1][1] != state:
+            found.append((name, state))
+    return found
+
+
+def who(view):
+    """For each line of the told row the patches whose last marks keep it, and those whose last marks cut it."""
+    found = []
+    for line in told_row(view):
+        marks = last_marks(view, line)
+        keeps = [name for name, mark in marks if mark == "keep"]
+        found.append((line, keeps, [name for name, mark in marks if mark == "cut"]))
+    return found
+
+
+def changed(store, head, other):
+    """The lines told by a head alone, and those told by another one alone, each in the order of its told row."""
+    row = told_row(View(store, store.head_set(head)))
+    other_row = told_row(View(store, store.head_set(other)))
+    return (_without(row, other_row), _without(other_row, row))
+
+
+def _without(lines, others):
+    """Those of some lines that aren't among others."""
+    there = set(others)
+    return [line for line in lines if line not in there]
+
+
+def _marks_by_log(view, line):
+    """The marks of a line that a patch puts, in the order of the set's log."""
+    if not is_put_line(line):
+        raise OutOfPlace("this is no line that a patch puts")
+    marks = dict(marks_of(view, line))
+    if len(marks) == 1:
+        return list(marks.items())
+    return [(name, marks[name]) for name in log_in(view.store.patches, view.names()) if name in marks]
+
+
+def _word_for(view, line, name, mark):
+    """The word for a mark: its own, but for that of the putting."""
+    if name != line[:2] or mark == "cut":
+        return mark
+    # A later keep by the patch that puts the line is the last mark, too.
+    return "keep" if ("keep", line) in view.store.patches[name].deeds else "put"
