@@ -8,11 +8,14 @@ from manyheads.store import has_names
 
 def check(patches, names, claim, paper):
     """Let a paper for a claim by, or refuse it at its first wrong step."""
-    ground = _ground_of(patches, names)
-    if ground is None or not is_claim(ground.many, claim) or not isinstance(paper, list):
+    told = {patch[0]: patch for patch in patches}
+    if not _are_closed(told, names):
+        raise BadPaper(0)
+    ground = Ground(told, names)
+    if not is_claim(ground, claim) or not isinstance(paper, list):
         raise BadPaper(0)
     for at, step in enumerate(paper, start=1):
-        if not isinstance(step, tuple) or len(step) != 2 or not is_claim(ground.many, step[0]):
+        if not isinstance(step, tuple) or len(step) != 2 or not is_claim(ground, step[0]):
             raise BadPaper(at)
         fact, evidence = step
         follows = FOLLOWS[fact[0]]
@@ -23,13 +26,19 @@ def check(patches, names, claim, paper):
         raise BadPaper(len(paper) + 1)
 
 
-def _ground_of(patches, names):
-    """The ground of a set, or None of what is no rising list of names that is a closed set."""
-    told = {patch[0]: patch for patch in patches}
+def _are_closed(told, names):
+    """Whether something is a rising list of names of told patches that is a closed set."""
+    if not isinstance(names, list):
+        return False
+    if names == sorted(told):
+        # Of what is equal to all names just True in the place of 1 is none.
+        if [number for _, number in names if number is True]:
+            return False
+        return not [other for patch in told.values() for other in patch[1] if other not in told]
     if not has_names(told, names) or not all(one < other for one, other in zip(names, names[1:])):
-        return None
-    ground = Ground([told[name] for name in names])
-    return ground if _leads_inside(ground.known, ground.known, names) else None
+        return False
+    inside = {name: True for name in names}
+    return not [other for name in names for other in told[name][1] if other not in inside]
 
 
 def _leads_inside(table, inside, things):
@@ -41,11 +50,20 @@ def _leads_inside(table, inside, things):
     return True
 
 
+def _know_inside(ground, inside, names):
+    """Whether all that some names know directly is inside."""
+    for name in names:
+        for other in ground.known_to(name):
+            if other not in inside:
+                return False
+    return True
+
+
 def _is_knowing(ground, names):
     """Whether something is a list of two names or more, each of which knows the next one directly."""
-    if not has_names(ground.known, names) or len(names) < 2:
+    if not has_names(ground.inside, names) or len(names) < 2:
         return False
-    return all(other in ground.known[one] for one, other in zip(names, names[1:]))
+    return all(other in ground.known_to(one) for one, other in zip(names, names[1:]))
 
 
 def _knows(ground, fact, names):
@@ -53,10 +71,10 @@ def _knows(ground, fact, names):
 
 
 def _not_known(ground, fact, names):
-    if not has_names(ground.known, names):
+    if not has_names(ground.inside, names):
         return False
     inside = {name: True for name in names}
-    return fact[2] not in inside and _leads_inside(ground.known, inside, [fact[1], *inside])
+    return fact[2] not in inside and _know_inside(ground, inside, [fact[1], *inside])
 
 
 def _lines_along(ground, bindings):
@@ -78,7 +96,7 @@ def _ahead(ground, fact, bindings):
 
 
 def _not_ahead(ground, fact, lines):
-    if not are_lines(ground.many, lines):
+    if not are_lines(ground, lines):
         return False
     inside = {line: True for line in lines}
     return fact[2] not in inside and _leads_inside(ground.bound(), inside, [fact[1], *inside])
@@ -113,11 +131,11 @@ def _torn(ground, fact, evidence):
 
 def _have_all_but(ground, marks, mark, names):
     """Whether a list of names has all that its own know, and all patches with marks but one, which has this mark."""
-    if not has_names(ground.known, names):
+    if not has_names(ground.inside, names):
         return False
     inside = {name: True for name in names}
     lacking = [marks[name] for name in marks if name not in inside]
-    return lacking == [mark] and _leads_inside(ground.known, inside, inside)
+    return lacking == [mark] and _know_inside(ground, inside, inside)
 
 
 def _loose(ground, fact, evidence):
@@ -143,7 +161,7 @@ def _ring(ground, fact, bindings):
 def _knot(ground, fact, evidence):
     if not isinstance(evidence, tuple) or len(evidence) != 4:
         return False
-    if not all(are_lines(ground.many, lines) for lines in evidence):
+    if not all(are_lines(ground, lines) for lines in evidence):
         return False
     knot = fact[1]
     ahead, behind, start, farther = evidence
@@ -169,7 +187,7 @@ def _sheet(ground, fact, evidence):
     knots, torn = fact[1], fact[2]
     if not isinstance(evidence, list) or len(evidence) != max(len(knots) - 1, 0):
         return False
-    if not all(are_lines(ground.many, lines) for lines in evidence):
+    if not all(are_lines(ground, lines) for lines in evidence):
         return False
     row = [line for knot in knots for line in knot]
     told = told_by_facts(ground)

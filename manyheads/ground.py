@@ -1,21 +1,23 @@
 """What the checker goes by: the told patches of a closed set, and the facts told so far."""
 
-from manyheads.patch import bindings_in, marks_by
+from manyheads.patch import bindings_in
 from manyheads.store import has_name
-from manyheads.words import FOOT, HEAD, is_among
+from manyheads.words import FOOT, HEAD, is_among, is_triple
 
 
 class Ground:
     """A closed set of told patches, and the facts of a paper's steps as far as it was let by.
 
-    Of the patches all but their lists is gathered only when it is asked for.
+    Patches are told by a table from their names, with all those of the set or more. Of them just the row of names
+    is looked at ahead; what they put, mark and bind is gathered when it is asked for.
     """
 
-    def __init__(self, patches):
-        self.known = {name: knows for name, knows, _ in patches}
-        self.deeds = {name: deeds for name, _, deeds in patches}
-        # For each name the number of lines put, which is the table by which claims are looked at.
-        self.many = {name: _many_put(deeds) for name, _, deeds in patches}
+    def __init__(self, told, names):
+        self.told_patches = told
+        self.row = names
+        self.inside = told if len(told) == len(names) else {name: True for name in names}
+        self.many = {}
+        self.seen = {}
         self.pairs = {}
         self.behind = None
         self.marks = None
@@ -32,11 +34,33 @@ class Ground:
             if fact[0] == "loose":
                 self.links.append([fact[1], fact[2]])
 
+    def has_member(self, thing):
+        """Whether a thing is one of the names of the set."""
+        return has_name(self.inside, thing)
+
+    def has_put(self, thing):
+        """Whether a thing is a line that a patch of the set puts."""
+        if not is_triple(thing):
+            return False
+        if thing not in self.seen:
+            self.seen[thing] = thing[:2] in self.inside and 1 <= thing[2] <= self.many_put(thing[:2])
+        return self.seen[thing]
+
+    def known_to(self, name):
+        """What a patch of the set knows directly."""
+        return self.told_patches[name][1]
+
+    def many_put(self, name):
+        """How many lines a patch puts."""
+        if name not in self.many:
+            self.many[name] = sum([len(deed[3]) for deed in self.told_patches[name][2] if deed[0] == "put"])
+        return self.many[name]
+
     def pair_of(self, binding):
         """The lines that a binding binds, or None of what is no binding."""
         if binding is None:
             return (HEAD, FOOT)
-        if not isinstance(binding, tuple) or len(binding) != 3 or not has_name(self.deeds, binding[0]):
+        if not isinstance(binding, tuple) or len(binding) != 3 or not has_name(self.inside, binding[0]):
             return None
         name, deed, place = binding
         rows = self._pairs_in(name)
@@ -48,7 +72,7 @@ class Ground:
         """For each line that has lines bound straight behind it all these."""
         if self.behind is None:
             self.behind = {HEAD: [FOOT]}
-            for name in self.deeds:
+            for name in self.row:
                 for pairs in self._pairs_in(name):
                     for one, other in pairs:
                         self.behind.setdefault(one, []).append(other)
@@ -56,31 +80,29 @@ class Ground:
 
     def marks_of(self, line):
         """The patches that mark a line, with their marks."""
-        return self._all_marks()[line]
+        if self.marks is None:
+            self.marks = {}
+            for name in self.row:
+                self._gather_marks(name)
+        found = {line[:2]: "keep"}
+        found.update(self.marks.get(line, {}))
+        return found
 
     def put_lines(self):
         """All lines that patches of the set put, rising."""
-        return sorted(self._all_marks())
+        return [(*name, place) for name in self.row for place in range(1, self.many_put(name) + 1)]
+
+    def _gather_marks(self, name):
+        """Take in the cuts and keeps of a patch; that it keeps what it puts is known without."""
+        for deed in self.told_patches[name][2]:
+            if deed[0] == "cut" or deed[0] == "keep":
+                self.marks.setdefault(deed[1], {})[name] = deed[0]
 
     def _pairs_in(self, name):
         """What each deed of a patch binds."""
         if name not in self.pairs:
-            self.pairs[name] = bindings_in(name, self.deeds[name])
+            self.pairs[name] = bindings_in(name, self.told_patches[name][2])
         return self.pairs[name]
-
-    def _all_marks(self):
-        """For each line the patches that mark it, with their marks; each line is marked by its own patch."""
-        if self.marks is None:
-            self.marks = {}
-            for name, deeds in self.deeds.items():
-                for line, mark in marks_by(name, deeds).items():
-                    self.marks.setdefault(line, {})[name] = mark
-        return self.marks
-
-
-def _many_put(deeds):
-    """How many lines some deeds put."""
-    return sum([len(deed[3]) for deed in deeds if deed[0] == "put"])
 
 
 def told_by_facts(ground):

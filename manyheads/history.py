@@ -153,8 +153,8 @@ class History:
 def history_of(store, told):
     """A history that tells just this, of a store that has all its patches."""
     here, states = told
-    tables = [{head: tuple(names) for head, names in heads} for _, _, heads in states]
-    return history_with(store, here, [parent for parent, _, _ in states], [latest for _, latest, _ in states], tables)
+    tables = [{head: tuple(names) for head, names in state[2]} for state in states]
+    return history_with(store, here, [state[0] for state in states], [state[1] for state in states], tables)
 
 
 def history_with(store, at, parents, next_ones, tables):

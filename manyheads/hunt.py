@@ -9,15 +9,12 @@ def lead_of(store, pairs, names):
     menders = _menders_by(store, pairs)
     if not has_names(store.patches, names):
         raise OutOfPlace("this is no list of names of patches that are there")
-    found = {}
-    left = list(names)
-    while left:
-        name = left.pop()
-        if name not in found:
-            found[name] = True
-            left.extend(store.patches[name].knows)
-            left.extend(menders.get(name, []))
-    return sorted(found)
+    row = store.names()
+    leads = _leads(store.patches, menders, _bits_by(row))
+    mask = 0
+    for name in names:
+        mask = mask | leads[name]
+    return _names_in(row, mask)
 
 
 class Hunt:
@@ -33,7 +30,7 @@ class Hunt:
         for names in [bad] + goods:
             _check_open(store.patches, menders, names)
         self.row = store.names()
-        bits = {name: 1 << place for place, name in enumerate(self.row)}
+        bits = _bits_by(self.row)
         leads = _leads(store.patches, menders, bits)
         good = {name: True for names in goods for name in names}
         # Names that lie in each other's lead have the same lead, so it tells their class.
@@ -121,7 +118,17 @@ def led_by(hunt, some):
     lead = 0
     for at in some:
         lead = lead | hunt.masks[at]
-    return [name for place, name in enumerate(hunt.row) if (lead >> place) & 1 == 1]
+    return _names_in(hunt.row, lead)
+
+
+def _bits_by(row):
+    """The bit of each name of a row."""
+    return {name: 1 << place for place, name in enumerate(row)}
+
+
+def _names_in(row, mask):
+    """The names of a row that a number tells by its bits."""
+    return [name for place, name in enumerate(row) if (mask >> place) & 1 == 1]
 
 
 def _menders_by(store, pairs):

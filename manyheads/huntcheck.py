@@ -20,7 +20,7 @@ def check_hunt(patches, bad, goods, pairs, paper):
         if _is_found(straight, left, part):
             many_found += 1
         elif above < most and _is_ask(straight, left, part):
-            asked = set(part[1])
+            asked = {name: True for name in part[1]}
             waiting.append((part[3], [name for name in left if name not in asked], above + 1))
             waiting.append((part[2], [name for name in left if name in asked], above + 1))
         else:

@@ -1,35 +1,53 @@
-"""What patches know of each other, told by a table of patches from their names."""
+"""What patches of a store know of each other, told by a table of them from their names.
+
+Each patch has a place there, and what it knows altogether is told by the bits of a number: the bit of a patch is
+its place. What is known came ahead, so places rise along what is known.
+"""
 
 from heapq import heapify, heappop, heappush
 
 
+def has_place(bits, place):
+    """Whether the patch of a place is among those that a number tells by its bits."""
+    return (bits >> place) & 1 == 1
+
+
+def bits_of(patches, names):
+    """The bits of some names."""
+    bits = 0
+    for name in names:
+        bits = bits | (1 << patches[name].place)
+    return bits
+
+
+def known_bits(patches, names):
+    """The bits of all that some names know altogether."""
+    bits = 0
+    for name in names:
+        bits = bits | patches[name].known
+    return bits
+
+
+def names_by(patches, bits):
+    """The names that a number tells by its bits, rising."""
+    return sorted([name for name, patch in patches.items() if (bits >> patch.place) & 1 == 1])
+
+
 def closure(patches, names):
-    """The least closed set that has these names, as the keys of a dict."""
-    found = {}
-    left = list(names)
-    while left:
-        name = left.pop()
-        if name not in found:
-            found[name] = True
-            left.extend(patches[name].knows)
-    return found
+    """The least closed set that has these names, rising."""
+    return names_by(patches, bits_of(patches, names) | known_bits(patches, names))
 
 
 def lacking_in(patches, names):
     """All that these names know altogether that isn't among them, rising."""
-    inside = set(names)
-    return sorted([name for name in closure(patches, names) if name not in inside])
-
-
-def known_under(patches, names):
-    """All that some of these names know altogether, as the keys of a dict."""
-    return closure(patches, [known for name in names for known in patches[name].knows])
+    bits = known_bits(patches, names) & ~bits_of(patches, names)
+    return names_by(patches, bits) if bits > 0 else []
 
 
 def tops_in(patches, names):
     """Those of some names that no other one of them knows altogether, rising."""
-    known = known_under(patches, names)
-    return sorted({name for name in names if name not in known})
+    known = known_bits(patches, names)
+    return sorted({name for name in names if not has_place(known, patches[name].place)})
 
 
 def log_in(patches, names):

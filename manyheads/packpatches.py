@@ -1,7 +1,7 @@
 """Reading the patches of a pack, row by row."""
 
 from manyheads.errors import BadPack, BadRow
-from manyheads.knowing import has_place
+from manyheads.lineage import bits_of, has_place, known_bits
 from manyheads.pack import sum_of
 from manyheads.patch import MOST_DEEDS, MOST_SIGNS, MOST_TEXTS, can_do, lines_named, patch_of_parts
 from manyheads.patchread import LINES_OF, lines_told, read_known, read_name, words_at
@@ -11,8 +11,8 @@ from manyheads.words import count_of
 class PackRows:
     """The rows of a pack, how many of them were read, and the patches that were read, in their order.
 
-    What a patch knows altogether, as far as is told, is kept as the bits of a number: the bit of a patch is its
-    place among those that stand in the pack. In a thin pack it may know others, too.
+    The patches have places as in a store, and what each knows altogether of those that stand in the pack is told by
+    their bits. In a thin pack it may know others, too.
     """
 
     def __init__(self, text, word):
@@ -24,17 +24,17 @@ class PackRows:
         self.many_read = 1
         self.is_thin = word == "thin"
         self.patches = {}
-        self.row = []
-        self.places = {}
-        self.known = {}
-        # Whether each one knows altogether what doesn't stand in the pack; and all that can't stand in it any more.
+        # Of the patch that is being read what it knows altogether, and whether that is more than stands in the pack.
+        self.known = 0
+        self.reaches = False
+        # Those that know more than stands in the pack; and all that can't stand in it any more.
         self.reaching = {}
         self.elsewhere = {}
         # Unlike texts as they came, and their numbers.
         self.texts = []
         self.numbers = {}
         # The lines that words told so far.
-        self.lines = {}
+        self.lines_by_word = {}
 
     def row_word(self):
         """The first word of the next row, or None behind the last one."""
@@ -75,37 +75,35 @@ def read_sum(pack):
 def _read_patch(pack):
     """Read one patch."""
     name = read_name(pack.rows, pack.many_read)
-    if name in pack.places or name in pack.elsewhere:
+    if name in pack.patches or name in pack.elsewhere:
         pack.refuse()
     pack.many_read += 1
     knows = read_known(pack.rows, pack.many_read, name)
     _take_known(pack, name, knows)
     pack.many_read += 1
-    deeds = _read_deeds(pack, name)
-    pack.places[name] = len(pack.row)
-    pack.row.append(name)
-    pack.patches[name] = patch_of_parts(name, knows, deeds)
+    patch = patch_of_parts(name, knows, _read_deeds(pack, name))
+    if pack.reaches:
+        pack.reaching[name] = True
+    patch.place = len(pack.patches)
+    patch.known = pack.known
+    pack.patches[name] = patch
 
 
 def _take_known(pack, name, knows):
     """Take in what a patch knows directly; refused is what it can't know, and where it can't stand."""
-    places = [pack.places[other] for other in knows if other in pack.places]
-    if len(places) == len(knows):
+    there = [other for other in knows if other in pack.patches]
+    if len(there) == len(knows):
+        last = max([pack.patches[other].place for other in there], default=-1)
         # It stands behind what it knows as soon as it can, but for lesser names.
-        if any(other > name for other in pack.row[max(places, default=-1) + 1:]):
+        if any(other > name for other in list(pack.patches)[last + 1:]):
             pack.refuse()
     elif not pack.is_thin:
         pack.refuse()
-    known, reaches = 0, False
+    pack.known = bits_of(pack.patches, there) | known_bits(pack.patches, there)
+    pack.reaches = len(there) < len(knows) or any(other in pack.reaching for other in there)
     for other in knows:
-        if other in pack.places:
-            known = known | pack.known[other] | (1 << pack.places[other])
-            reaches = reaches or pack.reaching[other]
-        else:
+        if other not in pack.patches:
             pack.elsewhere[other] = True
-            reaches = True
-    pack.known[name] = known
-    pack.reaching[name] = reaches
 
 
 def _read_deeds(pack, name):
@@ -114,11 +112,11 @@ def _read_deeds(pack, name):
     many = 0
     while pack.row_word() in LINES_OF:
         words = words_at(pack.rows, pack.many_read)
-        lines = lines_told(words, pack.many_read, pack.lines)
+        lines = lines_told(words, pack.many_read, pack.lines_by_word)
         if len(deeds) == MOST_DEEDS or not can_do((words[0], *lines), name, many):
             pack.refuse()
         for line in lines_named((words[0], *lines)):
-            if not _is_there(pack, name, line):
+            if line[:2] != name and not _is_there(pack, line):
                 pack.refuse()
         pack.many_read += 1
         if words[0] == "put":
@@ -130,16 +128,15 @@ def _read_deeds(pack, name):
     return deeds
 
 
-def _is_there(pack, name, line):
-    """Whether a line that isn't head or foot is there for a patch, if it isn't its own."""
-    other = line[:2]
-    if other == name:
-        return True
-    if other in pack.places:
-        return has_place(pack.known[name], pack.places[other]) and line[2] <= pack.patches[other].many
-    if pack.reaching[name]:
-        pack.elsewhere[other] = True
-    return pack.reaching[name]
+def _is_there(pack, line):
+    """Whether a line of another patch is there for the patch that is being read."""
+    name = line[:2]
+    if name in pack.patches:
+        other = pack.patches[name]
+        return has_place(pack.known, other.place) and line[2] <= other.many
+    if pack.reaches:
+        pack.elsewhere[name] = True
+    return pack.reaches
 
 
 def _read_texts(pack):

@@ -1,7 +1,7 @@
 """Reading packs of stores and histories, and thin packs, row by row."""
 
 from manyheads.history import history_with
-from manyheads.lineage import closure
+from manyheads.lineage import closure, tops_in
 from manyheads.packpatches import PackRows, read_all_patches, read_sum
 from manyheads.store import Store, put_together
 from manyheads.words import count_of, is_word, name_of
@@ -49,14 +49,12 @@ def _set_told(pack, words):
     if words == ["none"]:
         return ()
     tops = [name_of(word) for word in words]
-    known = 0
     for at, name in enumerate(tops):
-        if name not in pack.places or (at > 0 and tops[at - 1] >= name):
+        if name not in pack.patches or (at > 0 and tops[at - 1] >= name):
             pack.refuse()
-        known = known | pack.known[name]
-    if any((known >> pack.places[name]) & 1 == 1 for name in tops):
+    if tops_in(pack.patches, tops) != tops:
         pack.refuse()
-    return tuple(sorted(closure(pack.patches, tops)))
+    return tuple(closure(pack.patches, tops))
 
 
 class States:

@@ -4,23 +4,22 @@ from manyheads.claims import is_claim
 from manyheads.errors import BadPaper
 from manyheads.knowing import known_by, knowing_way, knows_it
 from manyheads.lineage import closure
-from manyheads.marks import last_marks, marks_of, state_of
-from manyheads.order import all_behind, is_ahead
-from manyheads.reach import reach_of, steps_from, way_by
+from manyheads.marks import last_marks, marks_of, put_lines, state_of
+from manyheads.order import all_behind, all_from, is_ahead
+from manyheads.reach import bindings_in, reach_of, show_of, steps_from, way_by
 from manyheads.sheet import knots
 
 
 def claims_of(view):
     """The claims that tell the states of all put lines, and the sheet's."""
-    lines = sorted(view.texts)
+    lines = put_lines(view)
     torn = [line for line in lines if state_of(view, line) == "torn"]
     return [(state_of(view, line), line) for line in lines] + [("sheet", knots(view), torn)]
 
 
 def paper_for(view, claim):
     """A paper for a claim of the view's set."""
-    table = {name: view.store.patches[name].many for name in view.names()}
-    if not is_claim(table, claim):
+    if not is_claim(view, claim):
         raise BadPaper(0)
     make = MAKERS[claim[0]]
     steps = make(view, claim)
@@ -83,20 +82,20 @@ def _knot(view, claim):
     behind = _joined(found[at + 1:])
     steps = _state_steps(view) + _ahead_steps(view, ahead, knot) + _ahead_steps(view, knot, behind)
     steps.extend(_hanging_steps(view, knot))
-    steps.append((("knot", knot), (ahead, behind, _all_from(view, knot + behind), _all_from(view, behind))))
+    steps.append((("knot", knot), (ahead, behind, all_from(view, knot + behind), all_from(view, behind))))
     return steps
 
 
 def _sheet(view, claim):
     found = knots(view)
-    torn = [line for line in sorted(view.texts) if state_of(view, line) == "torn"]
+    torn = [line for line in put_lines(view) if state_of(view, line) == "torn"]
     if claim[1] != found or claim[2] != torn:
         return None
     steps = _state_steps(view)
     evidence = []
     for at in range(1, len(found)):
         steps.extend(_ahead_steps(view, found[at - 1], found[at]))
-        evidence.append(_all_from(view, _joined(found[at:])))
+        evidence.append(all_from(view, _joined(found[at:])))
     for knot in found:
         steps.extend(_hanging_steps(view, knot))
     steps.append((("sheet", found, torn), evidence))
@@ -116,7 +115,7 @@ def _joined(rows):
 
 def _state_steps(view):
     """Steps that tell the states of all put lines."""
-    return [_state_step(view, line) for line in sorted(view.texts)]
+    return [_state_step(view, line) for line in put_lines(view)]
 
 
 def _state_step(view, line):
@@ -141,7 +140,7 @@ def _all_but(view, line, mark):
     """All patches that mark a line but one whose last mark is this one, and all that they know altogether."""
     last = [name for name, word in last_marks(view, line) if word == mark]
     others = [name for name, _ in marks_of(view, line) if name != last[0]]
-    return sorted(closure(view.store.patches, others))
+    return closure(view.patches, others)
 
 
 def _ahead_steps(view, lines, others):
@@ -153,13 +152,14 @@ def _ahead_steps(view, lines, others):
         ahead = steps_from(reach, start)
         for other in others:
             way = way_by(ahead, start, reach.numbers[other])
-            steps.append((("ahead", line, other), _bindings_along(reach, way)))
+            steps.append((("ahead", line, other), _bindings_along(view, way)))
     return steps
 
 
-def _bindings_along(reach, way):
+def _bindings_along(view, way):
     """The bindings of a way told by numbers."""
-    return [reach.bindings[(reach.lines[one], reach.lines[other])] for one, other in zip(way, way[1:])]
+    reach, bindings = reach_of(view), bindings_in(view)
+    return [bindings[(reach.lines[one], reach.lines[other])] for one, other in zip(way, way[1:])]
 
 
 def _loose_steps(view, one, other):
@@ -175,34 +175,21 @@ def _ring_step(view, lines):
     bindings = []
     for one, other in zip(lines, lines[1:] + lines[:1]):
         start = reach.numbers[one]
-        bindings.extend(_bindings_along(reach, way_by(steps_from(reach, start), start, reach.numbers[other])))
+        bindings.extend(_bindings_along(view, way_by(steps_from(reach, start), start, reach.numbers[other])))
     return (("ring", list(lines)), bindings)
-
-
-def _all_from(view, lines):
-    """Some lines and all that they are ahead of, rising."""
-    reach = reach_of(view)
-    found = {}
-    left = [reach.numbers[line] for line in lines]
-    while left:
-        number = left.pop()
-        if number not in found:
-            found[number] = True
-            left.extend(reach.behind[number])
-    return reach.lines_of(sorted(found))
 
 
 def _hanging_steps(view, knot):
     """Steps that tell that the lines of a knot hang together."""
-    reach = reach_of(view)
+    reach, shown = reach_of(view), show_of(view).shown
     steps = []
     # Each line's part of those that hang together by the steps so far.
     parts = {}
     for line in knot:
         ring = reach.ring_at[reach.numbers[line]]
         parts[line] = ring
-        if len(reach.shown[ring]) > 1 and line == reach.lines[reach.shown[ring][0]]:
-            steps.append(_ring_step(view, reach.lines_of(reach.shown[ring])))
+        if len(shown[ring]) > 1 and line == reach.lines[shown[ring][0]]:
+            steps.append(_ring_step(view, reach.lines_of(shown[ring])))
     for at, one in enumerate(knot):
         for other in knot[at + 1:]:
             if parts[one] != parts[other] and _are_loose(reach, one, other):

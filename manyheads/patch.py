@@ -8,8 +8,30 @@ MOST_TEXTS = 200
 MOST_SIGNS = 40
 
 
+class Work:
+    """What a patch puts, marks and binds, found once for all views of it.
+
+    The lines that it puts, and their texts; the lines that it marks, each with its name and the mark; all pairs of
+    lines that it binds, and each pair with the binding that binds it.
+    """
+
+    def __init__(self, patch):
+        lines = lines_put(patch)
+        self.lines = tuple([line for line, _ in lines])
+        self.texts = tuple([text for _, text in lines])
+        self.marks = tuple([(line, (patch.name, mark)) for line, mark in marks_in(patch)])
+        found = []
+        for deed, pairs in enumerate(bindings_of(patch), start=1):
+            found.extend([(pair, (patch.name, deed, place)) for place, pair in enumerate(pairs, start=1)])
+        self.bindings = tuple(found)
+        self.pairs = tuple([pair for pair, _ in found])
+
+
 class Patch:
-    """A patch. It is never changed, so all that it keeps is in tuples."""
+    """A patch. What it tells is never changed, so it is kept in tuples.
+
+    The place, what is known altogether, and the work are told of patches in a store alone: of others they are none.
+    """
 
     def __init__(self, name, knows, deeds):
         if not is_name(name) or not can_know(name, knows):
@@ -23,6 +45,9 @@ class Patch:
         self.name = name
         self.knows = tuple(knows)
         self.deeds = tuple(deeds)
+        self.place = None
+        self.known = None
+        self.work = None
 
     def told(self):
         """Its name, what it knows directly, and its deeds."""
@@ -46,6 +71,21 @@ def _patch_with(name, knows, deeds, many):
     patch.deeds = deeds
     patch.many = many
     return patch
+
+
+def patch_at(patch, place, known):
+    """Another Patch that tells the same, and has this place in a store and knows these altogether."""
+    other = patch_again(patch)
+    other.place = place
+    other.known = known
+    return other
+
+
+def work_of(patch):
+    """The work of a patch that nobody else can change; it is kept there."""
+    if patch.work is None:
+        patch.work = Work(patch)
+    return patch.work
 
 
 def can_know(own, knows):
@@ -139,14 +179,14 @@ def bindings_in(name, deeds):
     many = 0
     found = []
     for deed in deeds:
-        row = []
         if deed[0] == "put":
             new = [(hand, number, many + k) for k in range(1, len(deed[3]) + 1)]
             many += len(new)
-            row = [deed[1], *new, deed[2]]
-        if deed[0] == "order":
-            row = [deed[1], deed[2]]
-        found.append(list(zip(row, row[1:])))
+            found.append(list(zip([deed[1], *new], [*new, deed[2]])))
+        elif deed[0] == "order":
+            found.append([(deed[1], deed[2])])
+        else:
+            found.append([])
     return found
 
 

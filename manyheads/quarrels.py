@@ -2,7 +2,7 @@
 
 from manyheads.errors import OutOfPlace
 from manyheads.marks import state_of
-from manyheads.reach import reach_of
+from manyheads.reach import show_of
 from manyheads.sheet import knots
 from manyheads.words import is_put_line
 
@@ -28,7 +28,7 @@ def ways_to_settle(view, quarrel):
         raise OutOfPlace("this is no quarrel of the view")
     if quarrel[0] == "torn":
         return [("keep", quarrel[1]), ("cut", quarrel[1])]
-    return _ways_with_knot(reach_of(view), quarrel[1])
+    return _ways_with_knot(show_of(view), quarrel[1])
 
 
 def _can_be_quarrel(thing):
@@ -39,8 +39,9 @@ def _can_be_quarrel(thing):
     return isinstance(lines, tuple) and all(is_put_line(line) for line in lines)
 
 
-def _ways_with_knot(reach, knot):
+def _ways_with_knot(show, knot):
     """The deeds that bring on a knot's lines."""
+    reach = show.reach
     numbers = [reach.numbers[line] for line in knot]
     found = []
     for at, one in enumerate(numbers):
@@ -49,6 +50,6 @@ def _ways_with_knot(reach, knot):
                 found.append(("order", reach.lines[one], reach.lines[other]))
                 found.append(("order", reach.lines[other], reach.lines[one]))
     for number in numbers:
-        if len(reach.shown[reach.ring_at[number]]) > 1:
+        if len(show.shown[reach.ring_at[number]]) > 1:
             found.append(("cut", reach.lines[number]))
     return found

@@ -1,36 +1,34 @@
 """The bindings of a view, gone through once: its rings, and which of them are ahead of which."""
 
-from manyheads.knowing import has_place
+from manyheads.lineage import has_place
 from manyheads.marks import all_lines, state_of
-from manyheads.patch import bindings_of
+from manyheads.patch import work_of
 from manyheads.words import FOOT, HEAD
 
 # How many rings the bits of one number tell of: of very many lines no number comes to be too long.
 BLOCK = 4096
 # The numbers of lines: head, foot, then the lines put.
 HEAD_NUMBER = 0
+FOOT_NUMBER = 1
 FIRST_PUT = 2
 
 
 class Reach:
     """The lines of a view by numbers, which rise as the lines do, and their rings, also those of one line.
 
-    Rings have numbers, too: each one is ahead only of such as have lesser numbers.
+    Rings have numbers, too: each one is ahead only of such as have lesser numbers. Reaches are never changed, so
+    views that were copied may have the same one.
     """
 
     def __init__(self, view):
         self.lines = all_lines(view)
         self.numbers = {line: number for number, line in enumerate(self.lines)}
-        self.bindings = _bindings(view)
-        self.behind = _behind(self.numbers, self.bindings)
+        self.behind = _behind(self.numbers, _works_in(view))
         self.rings, self.ring_at = _rings(self.behind)
         self.straight = _straight(self.behind, self.rings, self.ring_at)
-        self.states = [state_of(view, line) for line in self.lines]
-        self.shown = [self._shown_in(ring) for ring in self.rings]
+        # These are found when they are first asked for.
         self.masks = {}
-        # These two are found by those that ask for them first.
-        self.knots = None
-        self.told_row = None
+        self.bindings = None
 
     def lines_of(self, numbers):
         """The lines that have these numbers, in their order."""
@@ -60,6 +58,21 @@ class Reach:
         """How many blocks of rings there are."""
         return (len(self.rings) - 1) // BLOCK + 1
 
+
+class Show:
+    """The told lines of a view, by the rings of its reach. What the sheet needs is kept here, too.
+
+    It is never changed, either.
+    """
+
+    def __init__(self, view):
+        self.reach = reach_of(view)
+        states = [state_of(view, line) for line in self.reach.lines]
+        told = [number >= FIRST_PUT and state != "gone" for number, state in enumerate(states)]
+        self.shown = [[number for number in ring if told[number]] for ring in self.reach.rings]
+        self.knots = None
+        self.told_row = None
+
     def loose_in(self, block):
         """For each ring the bits of those lesser ones of a block to which it is loose, both having told lines."""
         first = block * BLOCK
@@ -68,39 +81,49 @@ class Reach:
             if numbers:
                 shown = shown | (1 << place)
         found = []
-        for ring, mask in enumerate(self.masks_of(block)):
+        for ring, mask in enumerate(self.reach.masks_of(block)):
             lesser = (1 << min(max(ring - first, 0), BLOCK)) - 1
             found.append(shown & lesser & ~mask if self.shown[ring] else 0)
         return found
 
-    def _shown_in(self, ring):
-        """The told lines of a ring."""
-        return [number for number in ring if number >= FIRST_PUT and self.states[number] != "gone"]
-
 
 def reach_of(view):
-    """What the bindings of a view come to; it is kept there until the view grows."""
+    """What the bindings of a view come to; it is kept there until a patch comes that binds."""
     if view.reach is None:
         view.reach = Reach(view)
     return view.reach
 
 
-def _bindings(view):
-    """All pairs of lines that are bound straight; each with the first binding that binds it."""
-    found = {(HEAD, FOOT): None}
-    for name in view.names():
-        for deed, pairs in enumerate(bindings_of(view.store.patches[name]), start=1):
-            for place, pair in enumerate(pairs, start=1):
-                if pair not in found:
-                    found[pair] = (name, deed, place)
-    return found
+def show_of(view):
+    """What of a view is told; it is kept there until the view grows."""
+    if view.show is None:
+        view.show = Show(view)
+    return view.show
 
 
-def _behind(numbers, bindings):
+def bindings_in(view):
+    """For each pair of lines that are bound straight the first binding that binds it."""
+    reach = reach_of(view)
+    if reach.bindings is None:
+        reach.bindings = {(HEAD, FOOT): None}
+        for work in _works_in(view):
+            for pair, binding in work.bindings:
+                reach.bindings.setdefault(pair, binding)
+    return reach.bindings
+
+
+def _works_in(view):
+    """The works of a view's patches, by names rising."""
+    return [work_of(view.patches[name]) for name in view.names()]
+
+
+def _behind(numbers, works):
     """For each line the lines bound straight behind it, rising."""
-    rows = [[] for _ in numbers]
-    for one, other in bindings:
-        rows[numbers[one]].append(numbers[other])
+    rows = [{} for _ in numbers]
+    rows[HEAD_NUMBER][FOOT_NUMBER] = True
+    for work in works:
+        for one, other in work.pairs:
+            rows[numbers[one]][numbers[other]] = True
     return [sorted(row) for row in rows]
 
 

@@ -2,8 +2,9 @@
 
 from manyheads.alike import least_change
 from manyheads.errors import OutOfPlace
-from manyheads.knowing import View, has_place
-from manyheads.marks import last_marks, state_of
+from manyheads.knowing import View
+from manyheads.lineage import tops_in
+from manyheads.marks import last_marks, put_text, state_of
 from manyheads.order import is_ahead
 from manyheads.patch import MOST_DEEDS, MOST_TEXTS, Patch, is_text, lines_named
 from manyheads.quarrels import is_plain
@@ -34,7 +35,7 @@ def recorded(store, head, hand, rows):
 def _deeds(view, rows):
     """The deeds of the recorded change."""
     keepable = _keepable(view)
-    pairs, _ = least_change([view.texts[line] for line in keepable], rows)
+    pairs, _ = least_change([put_text(view, line) for line in keepable], rows)
     kept = [keepable[at] for at, _ in pairs]
     places = [place for _, place in pairs]
     stay = {line: True for line in kept}
@@ -78,7 +79,4 @@ def _known(view, deeds):
             for name, mark in last_marks(view, deed[1]):
                 if mark != deed[0]:
                     found[name] = True
-    known = 0
-    for name in found:
-        known = known | view.known[name]
-    return sorted([name for name in found if not has_place(known, view.places[name])])
+    return tops_in(view.patches, found)

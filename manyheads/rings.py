@@ -1,14 +1,18 @@
 """Rings of lines, and lines that are loose."""
 
-from manyheads.order import number_in
-from manyheads.reach import BLOCK, reach_of
+from manyheads.aheads import aheads_of
+from manyheads.marks import check_line
+from manyheads.reach import BLOCK, reach_of, show_of
 
 
 def ring_of(view, line):
     """The ring of a line, rising; the line alone where there are no others in it."""
-    number = number_in(view, line)
+    check_line(view, line)
+    aheads = aheads_of(view)
+    if aheads is not None:
+        return aheads.lines_around(line)
     reach = reach_of(view)
-    return reach.lines_of(reach.rings[reach.ring_at[number]])
+    return reach.lines_of(reach.rings[reach.ring_at[reach.numbers[line]]])
 
 
 def rings_of(view):
@@ -19,12 +23,12 @@ def rings_of(view):
 
 def loose_pairs(view):
     """All pairs of loose lines, rising, the lesser one first in each."""
-    reach = reach_of(view)
+    reach, show = reach_of(view), show_of(view)
     pairs = []
     for block in range(reach.blocks()):
-        for ring, bits in enumerate(reach.loose_in(block)):
+        for ring, bits in enumerate(show.loose_in(block)):
             for place in _places_in(bits):
-                pairs.extend(_pairs_of(reach.shown[ring], reach.shown[block * BLOCK + place]))
+                pairs.extend(_pairs_of(show.shown[ring], show.shown[block * BLOCK + place]))
     return [(reach.lines[one], reach.lines[other]) for one, other in sorted(pairs)]
 
 

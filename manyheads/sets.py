@@ -1,7 +1,7 @@
 """Sets of names of a store's patches: their tops, what is under them, their logs."""
 
 from manyheads.errors import NotClosed, OutOfPlace
-from manyheads.lineage import known_under, lacking_in, log_in, shortest_row, tops_in
+from manyheads.lineage import known_bits, lacking_in, log_in, names_by, shortest_row, tops_in
 from manyheads.store import has_name, has_names
 
 
@@ -14,7 +14,7 @@ def tops(store, names):
 def under(store, names):
     """All that some names know altogether, rising."""
     _check_names(store, names)
-    return sorted(known_under(store.patches, names))
+    return names_by(store.patches, known_bits(store.patches, names))
 
 
 def log_of(store, names):

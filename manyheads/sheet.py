@@ -3,16 +3,17 @@
 from heapq import heappop, heappush
 
 from manyheads.errors import OutOfPlace
-from manyheads.reach import BLOCK, HEAD_NUMBER, reach_of
+from manyheads.marks import put_text
+from manyheads.reach import BLOCK, HEAD_NUMBER, show_of
 from manyheads.words import is_put_line
 
 
 def knots(view):
     """All knots, one behind the other, each a list of its lines, rising."""
-    reach = reach_of(view)
-    if reach.knots is None:
-        reach.knots = _knots_in(reach)
-    return [reach.lines_of(knot) for knot in reach.knots]
+    show = show_of(view)
+    if show.knots is None:
+        show.knots = _knots_in(show)
+    return [show.reach.lines_of(knot) for knot in show.knots]
 
 
 def knot_of(view, line):
@@ -26,25 +27,25 @@ def knot_of(view, line):
 
 def told_row(view):
     """All told lines, none ahead of one that is ahead of it but in its ring."""
-    reach = reach_of(view)
-    if reach.told_row is None:
-        reach.told_row = _row_in(reach)
-    return reach.lines_of(reach.told_row)
+    show = show_of(view)
+    if show.told_row is None:
+        show.told_row = _row_in(show)
+    return show.reach.lines_of(show.told_row)
 
 
 def sheet_texts(view):
     """The texts of the told row."""
-    return [view.texts[line] for line in told_row(view)]
+    return [put_text(view, line) for line in told_row(view)]
 
 
-def _knots_in(reach):
+def _knots_in(show):
     """The numbers of the lines of each knot.
 
     Of a ring and a lesser one to which it is loose, each ring between them, having told lines, is loose to one
     of the two. So knots are rows of rings whose numbers stand side by side, but for rings without told lines.
     """
-    rings = [ring for ring, numbers in enumerate(reach.shown) if numbers]
-    least = _least_loose(reach)
+    rings = [ring for ring, numbers in enumerate(show.shown) if numbers]
+    least = _least_loose(show)
     starts = []
     for at, ring in enumerate(rings):
         start = at
@@ -53,27 +54,28 @@ def _knots_in(reach):
         starts.append(start)
     found = []
     for start, end in zip(starts, starts[1:] + [len(rings)]):
-        found.append(sorted([number for ring in rings[start:end] for number in reach.shown[ring]]))
+        found.append(sorted([number for ring in rings[start:end] for number in show.shown[ring]]))
     return found[::-1]
 
 
-def _least_loose(reach):
+def _least_loose(show):
     """For each ring the least of all lesser ones to which it is loose, or itself."""
-    least = list(range(len(reach.rings)))
-    for block in range(reach.blocks() - 1, -1, -1):
-        for ring, bits in enumerate(reach.loose_in(block)):
+    least = list(range(len(show.shown)))
+    for block in range(show.reach.blocks() - 1, -1, -1):
+        for ring, bits in enumerate(show.loose_in(block)):
             if bits > 0:
                 least[ring] = block * BLOCK + (bits & -bits).bit_length() - 1
     return least
 
 
-def _row_in(reach):
+def _row_in(show):
     """The numbers of the told row's lines."""
+    reach = show.reach
     waiting = [0] * len(reach.rings)
     for others in reach.straight:
         for other in others:
             waiting[other] += 1
-    left = [len(numbers) for numbers in reach.shown]
+    left = [len(numbers) for numbers in show.shown]
     row, ready, done = [], [], [reach.ring_at[HEAD_NUMBER]]
     while done or ready:
         # Rings whose told lines are all in the row let those behind them come, ahead of the next line.
@@ -82,7 +84,7 @@ def _row_in(reach):
             for other in reach.straight[ring]:
                 waiting[other] -= 1
                 if waiting[other] == 0:
-                    _let_come(reach, other, ready, done)
+                    _let_come(show, other, ready, done)
             continue
         row.append(heappop(ready))
         ring = reach.ring_at[row[-1]]
@@ -92,9 +94,9 @@ def _row_in(reach):
     return row
 
 
-def _let_come(reach, ring, ready, done):
+def _let_come(show, ring, ready, done):
     """Make ready the told lines of a ring; without any it is done at once."""
-    if not reach.shown[ring]:
+    if not show.shown[ring]:
         done.append(ring)
-    for number in reach.shown[ring]:
+    for number in show.shown[ring]:
         heappush(ready, number)

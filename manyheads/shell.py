@@ -17,6 +17,7 @@ class Shell:
     def __init__(self):
         self.kept = History(Store())
         self.hunting = None
+        self.views = {}
 
     def say(self, text):
         """The answer to a text."""

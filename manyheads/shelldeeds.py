@@ -58,6 +58,7 @@ def _unpack(shell, things):
     kept = pack_read("\n".join(things[0]))
     shell.kept = kept if isinstance(kept, History) else History(kept)
     shell.hunting = None
+    shell.views = {}
 
 
 def _change(shell, things):

@@ -26,8 +26,12 @@ def _rows_text(rows):
 
 
 def _view_of(shell, head):
-    """The view of a head's set."""
-    return View(shell.kept.store, shell.kept.store.head_set(head))
+    """The view of a head's set. The last one of each head is kept; what a head of any state has is never swept."""
+    store = shell.kept.store
+    names = store.head_set(head)
+    if head not in shell.views or shell.views[head].names() != names:
+        shell.views[head] = View(store, names)
+    return shell.views[head]
 
 
 def _names(shell, things):
@@ -85,7 +89,7 @@ def _paper(shell, things):
     head, claim = things
     view = _view_of(shell, head)
     names = view.names()
-    patches = [view.store.patches[name] for name in names]
+    patches = [view.patches[name] for name in names]
     try:
         check([(patch.name, patch.knows, patch.deeds) for patch in patches], names, claim, paper_for(view, claim))
     except BadPaper:

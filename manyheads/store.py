@@ -1,26 +1,31 @@
 """A store of patches, and its heads."""
 
 from manyheads.errors import BadPatch, Hindered, NotClosed, OutOfPlace, Unlike
-from manyheads.lineage import closure, lacking_in
-from manyheads.patch import Patch, lines_named, patch_again
-from manyheads.words import is_name, is_word
+from manyheads.lineage import bits_of, closure, has_place, known_bits, lacking_in, names_by
+from manyheads.patch import Patch, lines_named, patch_again, patch_at
+from manyheads.words import is_pair, is_word
 
 
 def has_name(table, thing):
     """Whether a thing, perhaps none that can be a key, is one of the names in a table."""
-    return is_name(thing) and thing in table
+    return is_pair(thing) and thing in table
 
 
 def has_names(table, things):
     """Whether something is a list of names in a table."""
-    return isinstance(things, list) and all(has_name(table, thing) for thing in things)
+    if not isinstance(things, list):
+        return False
+    for thing in things:
+        if not is_pair(thing) or thing not in table:
+            return False
+    return True
 
 
 class Store:
     """Patches, by names, in the order in which they came; and heads, their sets tuples of names, rising."""
 
     def __init__(self):
-        # What a patch knows came ahead of it, so each set can be gone through from the known to the knowing.
+        # What a patch knows came ahead of it. Stores and views may have the same Patches, so none is ever changed.
         self.patches = {}
         self.sets = {}
 
@@ -35,17 +40,23 @@ class Store:
         lacking = [name for name in patch.knows if name not in self.patches]
         if lacking:
             raise NotClosed(lacking)
-        self._check_lines(patch)
-        self.patches[patch.name] = patch_again(patch)
+        known = bits_of(self.patches, patch.knows) | known_bits(self.patches, patch.knows)
+        self._check_lines(patch, known)
+        self.patches[patch.name] = patch_at(patch, len(self.patches), known)
 
-    def _check_lines(self, patch):
+    def _check_lines(self, patch, known):
         """Refuse a patch that names a line which it can't know."""
-        known = closure(self.patches, patch.knows)
         for at, deed in enumerate(patch.deeds, start=1):
             for line in lines_named(deed):
-                name = line[:2]
-                if name != patch.name and (name not in known or line[2] > self.patches[name].many):
+                if line[:2] != patch.name and not self._has_line(line, known):
                     raise BadPatch(at)
+
+    def _has_line(self, line, known):
+        """Whether a line is put by one of the patches that are known."""
+        if line[:2] not in self.patches:
+            return False
+        putting = self.patches[line[:2]]
+        return has_place(known, putting.place) and line[2] <= putting.many
 
     def names(self):
         """The names of all patches, rising."""
@@ -59,12 +70,12 @@ class Store:
     def knows_all(self, name):
         """All names that a patch knows altogether, rising."""
         self._check_name(name)
-        return sorted(closure(self.patches, self.patches[name].knows))
+        return names_by(self.patches, self.patches[name].known)
 
     def closed_by(self, names):
         """The least closed set that has these names, rising."""
         self._check_names(names)
-        return sorted(closure(self.patches, names))
+        return closure(self.patches, names)
 
     def heads(self):
         """All heads, rising."""
@@ -98,7 +109,7 @@ class Store:
         """Give a head a patch more, and all that it knows altogether."""
         self._check_head(head)
         self._check_name(name)
-        self._give(head, list(self.sets[head]) + list(closure(self.patches, [name])))
+        self._give(head, list(self.sets[head]) + closure(self.patches, [name]))
 
     def take_out(self, head, name):
         """Take a patch out of a head's set."""
@@ -123,8 +134,8 @@ class Store:
             for name in names:
                 stay[name] = True
         gone = [name for name in sorted(self.patches) if name not in stay]
-        for name in gone:
-            del self.patches[name]
+        if gone:
+            self._keep_just(stay)
         return gone
 
     def copied(self):
@@ -156,17 +167,21 @@ class Store:
     def _give(self, head, names):
         self.sets[head] = tuple(sorted(set(names)))
 
+    def _keep_just(self, stay):
+        """Take out all patches but these, which are a closed set; places are given anew."""
+        left = [patch for name, patch in self.patches.items() if name in stay]
+        self.patches = {}
+        for patch in left:
+            known = bits_of(self.patches, patch.knows) | known_bits(self.patches, patch.knows)
+            self.patches[patch.name] = patch_at(patch, len(self.patches), known)
+
     def _knowing(self, head, name):
         """Those of a head's set that know one of it altogether, rising."""
         self._check_head(head)
-        if not is_name(name) or name not in self.sets[head]:
+        if not is_pair(name) or name not in self.sets[head]:
             raise OutOfPlace("the head hasn't this patch")
-        inside = set(self.sets[head])
-        found = {name: True}
-        for other in self.patches:
-            if other in inside and any(known in found for known in self.patches[other].knows):
-                found[other] = True
-        return sorted([other for other in found if other != name])
+        place = self.patches[name].place
+        return [other for other in self.sets[head] if has_place(self.patches[other].known, place)]
 
 
 def put_together(store, patches):

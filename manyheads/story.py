@@ -1,9 +1,9 @@
 """Stories: how lines came to be what they are, by whom they are told, and what changed between two heads."""
 
 from manyheads.errors import OutOfPlace
-from manyheads.knowing import View, has_place
-from manyheads.lineage import log_in
-from manyheads.marks import last_marks, marks_of
+from manyheads.knowing import View, log_in_view
+from manyheads.lineage import has_place
+from manyheads.marks import last_marks, marks_of, state_by
 from manyheads.sheet import told_row
 from manyheads.words import is_put_line
 
@@ -19,10 +19,9 @@ def turns(view, line):
     # The last marks of those so far.
     last = []
     for name, mark in _marks_by_log(view, line):
-        known = view.known[name]
-        last = [(other, word) for other, word in last if not has_place(known, view.places[other])] + [(name, mark)]
-        words = [word for _, word in last]
-        state = "stands" if "cut" not in words else "torn" if "keep" in words else "gone"
+        known = view.patches[name].known
+        last = [other for other in last if not has_place(known, view.patches[other[0]].place)] + [(name, mark)]
+        state = state_by(last)
         if not found or found[-1][1] != state:
             found.append((name, state))
     return found
@@ -56,9 +55,7 @@ def _marks_by_log(view, line):
     if not is_put_line(line):
         raise OutOfPlace("this is no line that a patch puts")
     marks = dict(marks_of(view, line))
-    if len(marks) == 1:
-        return list(marks.items())
-    return [(name, marks[name]) for name in log_in(view.store.patches, view.names()) if name in marks]
+    return [(name, marks[name]) for name in log_in_view(view) if name in marks]
 
 
 def _word_for(view, line, name, mark):
@@ -66,4 +63,4 @@ def _word_for(view, line, name, mark):
     if name != line[:2] or mark == "cut":
         return mark
     # A later keep by the patch that puts the line is the last mark, too.
-    return "keep" if ("keep", line) in view.store.patches[name].deeds else "put"
+    return "keep" if ("keep", line) in view.patches[name].deeds else "put"

@@ -34,6 +34,24 @@ def is_hand(thing):
 
 # Names are looked at so often that they are taken apart just once, and True is told from 1 without a call.
 
+def is_pair(thing):
+    """Whether a thing is a text and a whole number: what is so, and equal to a patch's name, is that name."""
+    if not isinstance(thing, tuple) or len(thing) != 2:
+        return False
+    hand, number = thing
+    return isinstance(number, int) and isinstance(hand, str) and number is not True and number is not False
+
+
+def is_triple(thing):
+    """Whether a thing is a text and two whole numbers: what is so, and equal to a line's name, is that name."""
+    if not isinstance(thing, tuple) or len(thing) != 3:
+        return False
+    hand, number, place = thing
+    if not isinstance(number, int) or not isinstance(place, int) or not isinstance(hand, str):
+        return False
+    return number is not True and number is not False and place is not True and place is not False
+
+
 def is_name(thing):
     """Whether a thing is a patch's name."""
     if not isinstance(thing, tuple) or len(thing) != 2:
@@ -54,10 +72,7 @@ def is_put_line(thing):
 
 def is_end(thing):
     """Whether a thing is the head line or the foot line."""
-    if not isinstance(thing, tuple) or len(thing) != 3 or not isinstance(thing[0], str):
-        return False
-    # The numbers are looked at one by one: False and True are equal to 0 and 1.
-    return thing[0] == "" and is_among(thing[1], 0, 0) and is_among(thing[2], 0, 1)
+    return is_triple(thing) and (thing == HEAD or thing == FOOT)
 
 
 def number_of(word):

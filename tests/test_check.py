@@ -1,11 +1,14 @@
 """[80]: the checker lets by just what is a paper, and refuses all else at its first wrong step."""
 
+import time
+
 from manyheads.check import check
 from manyheads.errors import BadPaper
 from manyheads.knowing import View
 from manyheads.paper import claims_of, paper_for
 from manyheads.patch import Patch
 from manyheads.store import Store
+from manyheads.words import is_name
 from helpers import ANYTHING, EQUALS, Case, FOOT, HEAD, chances, put_all, putting
 from plain import line_web, ring_store
 from plaincheck import as_told, table_of, wrong_step
@@ -279,6 +282,38 @@ class Walking(CheckCase):
                 [list(A1)], [A1, None], [X], self.names[::-1], self.names + [D1], None, "a.1"]:
             self.refused(BadPaper, {"step": 0}, check, told(self.store), names, claim, paper)
             self.refused(BadPaper, {"step": 0}, check, told(self.store), names, None, None)
+
+    def test_names_that_are_just_equal(self):
+        claim, paper = ("stands", X), [(("stands", X), [])]
+        for at, name in enumerate(self.names):
+            for other in ((name[0], True), list(name), (name[0], name[1], 1), (name,), name[0]):
+                self.bad(0, claim, paper, self.names[:at] + [other] + self.names[at + 1:])
+                self.bad(0, claim, paper, self.names[:at] + [other])
+
+    def test_patches_that_are_no_closed_set(self):
+        sheet = ("sheet", [], [])
+        for patches, names in (([B1, C1], [B1, C1]), ([B1, C1, D1], [B1]), ([B1], [B1]), ([B1, D1], [D1])):
+            rows = [self.store.patch_of(name).told() for name in patches]
+            self.refused(BadPaper, {"step": 0}, check, rows, names, sheet, [(sheet, [])])
+            self.assertIsNone(check(rows, [], sheet, [(sheet, [])]))
+
+    def test_a_short_paper_takes_little_time(self):
+        """Weighed against looking at each letter of all names; the check of other patches took twice as long."""
+        store = Store()
+        store.put_patch(putting(A1, (), "abcdefghijkl"))
+        for number in range(2, 64):
+            store.put_patch(Patch(("a", number), [("a", number - 1)], [("keep", ("a", 1, 1 + number % 12))]))
+        patches, names = told(store), store.names()
+        claim = ("knows", ("a", 2), A1)
+        spent, weight = [], []
+        for _ in range(200):
+            begun = time.perf_counter()
+            check(patches, names, claim, [(claim, [("a", 2), A1])])
+            spent.append(time.perf_counter() - begun)
+            begun = time.perf_counter()
+            self.assertTrue(all([is_name(name) for name in names]))
+            weight.append(time.perf_counter() - begun)
+        self.assertLess(min(spent), min(weight))
 
     def test_an_empty_set(self):
         sheet = ("sheet", [], [])
