@@ -49,10 +49,7 @@ def _set_told(pack, words):
     if words == ["none"]:
         return ()
     tops = [name_of(word) for word in words]
-    for at, name in enumerate(tops):
-        if name not in pack.patches or (at > 0 and tops[at - 1] >= name):
-            pack.refuse()
-    if tops_in(pack.patches, tops) != tops:
+    if not all(name in pack.patches for name in tops) or tops_in(pack.patches, tops) != tops:
         pack.refuse()
     return tuple(closure(pack.patches, tops))
 

@@ -59,8 +59,5 @@ def _marks_by_log(view, line):
 
 
 def _word_for(view, line, name, mark):
-    """The word for a mark: its own, but for that of the putting."""
-    if name != line[:2] or mark == "cut":
-        return mark
-    # A later keep by the patch that puts the line is the last mark, too.
-    return "keep" if ("keep", line) in view.patches[name].deeds else "put"
+    """The word for a mark: its own, but for a keep without a deed, which is the putting."""
+    return mark if (mark, line) in view.patches[name].deeds else "put"

@@ -74,6 +74,8 @@ class Views(Case):
             self.refused(OutOfPlace, {}, view.add_patch, thing)
         for name, lacking in ((A2, [B1]), (C1, [A2, B1]), (A3, [A2, B1, C1])):
             self.refused(NotClosed, {"lacking": lacking}, view.add_patch, name)
+        for name, lacking in ((B1, [A1]), (A2, [A1, B1])):
+            self.refused(NotClosed, {"lacking": lacking}, View(self.store, []).add_patch, name)
         self.store.put_patch(putting(("n", 1)))
         self.refused(OutOfPlace, {}, view.add_patch, ("n", 1))
         self.assertEqual(self.told(view), before)

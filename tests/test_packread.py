@@ -102,6 +102,8 @@ class Patches(ReadCase):
         self.wrong(5, "pack", "patch a 10", "knows none", "patch a 9", "knows none", "head")
         self.good("pack", "patch a 9", "knows none", "patch a 10", "knows none")
         self.good("pack", "patch b 1", "knows none", "patch a 9", "knows b.1")
+        self.wrong(7, "pack", "patch z 1", "knows none", "patch a 1", "knows z.1", "patch m 1", "knows none")
+        self.wrong(9, "pack", "patch b 1", "knows none", "patch z 1", "knows b.1", "patch a 1", "knows z.1", "patch m 1", "knows b.1")
         rows = ["pack", "patch b 1", "knows none", "patch c 1", "knows none"]
         self.wrong(7, *rows, "patch a 1", "knows b.1")
         self.wrong(7, *rows, "patch a 1", "knows none")
@@ -490,6 +492,7 @@ class Thick(ReadCase):
     def test_order(self):
         self.wrong_thin(5, "thin", "patch b 1", "knows none", "patch a 1", "knows none")
         self.wrong_thin(7, "thin", "patch b 1", "knows z.1", "patch c 1", "knows z.1", "patch a 1", "knows b.1")
+        self.wrong_thin(7, "thin", "patch y 1", "knows z.1", "patch a 1", "knows y.1", "patch m 1", "knows none")
         # Where it knows what doesn't stand there, that may come ahead of it wherever it stands.
         self.good_thin("thin", "patch b 1", "knows none", "patch a 1", "knows a.9")
         self.good_thin("thin", "patch b 1", "knows z.1", "patch c 1", "knows z.1", "patch a 1", "knows b.1 z.1")

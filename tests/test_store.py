@@ -296,6 +296,27 @@ class Sweeping(StoreCase):
         self.assertEqual(self.store.sweep([[], []]), [A1, B2])
         self.assertEqual(self.store.names(), [])
 
+    def test_what_stays_is_as_it_was(self):
+        for seed in range(20):
+            made = web(seed, 20)
+            store = put_all([putting(name, knows) for name, knows in made.items()])
+            names = list(made)
+            store.set_head("main", store.closed_by(names[seed % 4::6]))
+            other = store.copied()
+            before = told_of(other)
+            more = store.closed_by(names[seed % 5:seed % 5 + 2])
+            stay = sorted(set(store.head_set("main")) | set(more))
+            due = put_all([putting(name, made[name]) for name in made if name in stay])
+            due.set_head("main", store.head_set("main"))
+            self.assertEqual(store.sweep([more]), sorted(set(names) - set(stay)))
+            self.assertEqual(told_of(store), told_of(due))
+            self.assertEqual(told_of(other), before)
+            for one in (store, due):
+                one.put_patch(putting(("n", 1), sorted(stay)[::2]))
+                one.pick("main", ("n", 1))
+                one.put_patch(putting(("n", 2), [("n", 1)]))
+            self.assertEqual(told_of(store), told_of(due))
+
     def test_swept_names_can_come_again(self):
         self.store.sweep([[A1]])
         for name in (B1, D1):

@@ -208,6 +208,17 @@ class Fetches(Case):
         fetch.hears(("told", (row_of(other, A1), (A1, (), ()), row_of(other, B1))))
         self.assertEqual((fetch.asks(), fetch.held().names(), fetch.asked_names()), (None, [A1, B1], [A1, B1]))
 
+    def test_a_patch_that_was_not_asked_for(self):
+        other, fetch = store_of(WEB), Fetch(Store())
+        fetch.hears(("tops", (A3, D1)))
+        fetch.hears(("known", ((D1, ()),)))
+        fetch.hears(("told", (row_of(other, D1),)))
+        self.assertEqual((fetch.asks(), fetch.held().names(), fetch.asked_names()), (("knows", (A3,)), [], []))
+        while fetch.asks()[0] != "patches":
+            fetch.hears(reply(other, fetch.asks()))
+        fetch.hears(("told", (row_of(other, D1),)))
+        self.assertEqual(fetch.held().names(), [D1])
+
     def test_rows_one_by_one(self):
         other, fetch = store_of(WEB), Fetch(Store())
         for _ in range(5):

@@ -49,6 +49,16 @@ class Names(Case):
                       ["a", 1, 1], ("a", 1), ("a", 1, 1, 1), ("head", 1, 1), HEAD, FOOT, "a.1.1"):
             self.assertIs(words.is_put_line(thing), False)
 
+    def test_texts_and_whole_numbers(self):
+        for thing in (("a", 1), ("", 0), ("Any text", -10 ** 30)):
+            self.assertIs(words.is_pair(thing), True)
+            self.assertIs(words.is_triple((*thing, 5)), True)
+        for thing in (("a", True), ("a", False), ("a", None), (None, 1), (b"a", 1), (1, "a"), ["a", 1], ("a",), (), ("a", 1, 1), "a1"):
+            self.assertIs(words.is_pair(thing), False)
+        for thing in (("a", 1, True), ("a", 1, False), ("a", 1, None), ("a", True, 1), ("a", False, 1), ("a", "1", 1), (None, 1, 1), (b"a", 1, 1),
+                      ["a", 1, 1], ("a", 1), ("a", 1, 1, 1), "a11"):
+            self.assertIs(words.is_triple(thing), False)
+
     def test_end(self):
         self.assertIs(words.is_end(HEAD), True)
         self.assertIs(words.is_end(FOOT), True)
