@@ -1,7 +1,7 @@
 """What patches of a store know of each other, told by a table of them from their names.
 
-Each patch has a place there, and what it knows altogether is told by the bits of a number: the bit of a patch is
-its place. What is known came ahead, so places rise along what is known.
+Each patch has a place there, from 0, in the order of the table, in which what a patch knows stands ahead of it. What
+it knows altogether is told by the bits of a number: the bit of a patch is its place.
 """
 
 from heapq import heapify, heappop, heappush
@@ -30,7 +30,7 @@ def known_bits(patches, names):
 
 def names_by(patches, bits):
     """The names that a number tells by its bits, rising."""
-    return sorted([name for name, patch in patches.items() if (bits >> patch.place) & 1 == 1])
+    return sorted([name for place, name in enumerate(patches) if (bits >> place) & 1 == 1])
 
 
 def closure(patches, names):
